@@ -1,0 +1,183 @@
+"""Point 2: arguments that stay as they are, new results, and order."""
+
+import copy
+import unittest
+
+from tests.support import G, L, P, all_results
+from whyreran.builds import (
+    cause_of,
+    explains,
+    first_mismatch,
+    pending_in,
+    run_build,
+    run_builds,
+)
+from whyreran.projects import (
+    cycle_in,
+    is_build,
+    is_graph,
+    is_log,
+    is_name,
+    is_project,
+    names_above,
+    names_of,
+    target_order,
+    targets_below,
+)
+
+R = {"a": "new", "b": "failed", "c": "same"}
+PLAN = (["u", "s"], R)
+CIRCLE = {"a": ["c", "s"], "b": ["a"], "c": ["b"]}
+CALLS = [
+    (is_name, ("a",)), (is_project, (P,)), (is_graph, (P, G)), (is_graph, (P, CIRCLE)),
+    (is_build, (P, L[0])), (is_log, (P, L)), (names_of, (P,)), (names_above, (P, G, "c")),
+    (targets_below, (P, G, "s")), (cycle_in, (P, G)), (cycle_in, (P, CIRCLE)),
+    (target_order, (P, G)), (run_build, (P, G, ["c", "a"], ["u", "s"], R)),
+    (run_builds, (P, G, [PLAN, PLAN, ([], R)])), (pending_in, (P, L, 1)),
+    (pending_in, (P, L, 3)), (explains, (P, G, L)), (first_mismatch, (P, G, L)),
+    (first_mismatch, (P, dict(G, c=["s"]), L)), (cause_of, (P, G, L, 0, "c")),
+    (cause_of, (P, G, L, 1, "c")), (cause_of, (P, G, L, 2, "c")),
+]
+
+
+def shown(value):
+    """Return a string that tells the order of dicts as well."""
+    return repr(value)
+
+
+def holders(value):
+    """Return all lists and dicts in a value, each as often as it stands there."""
+    found = [value] if isinstance(value, (list, dict)) else []
+    if isinstance(value, (list, tuple)):
+        inner = value
+    else:
+        inner = value.values() if isinstance(value, dict) else []
+    return found + [holder for part in inner for holder in holders(part)]
+
+
+def spoil(value):
+    """Change every list and dict in a value."""
+    for holder in holders(value):
+        if isinstance(holder, list):
+            holder.append("spoiled")
+        else:
+            holder["spoiled"] = ["spoiled"]
+
+
+def turned(value):
+    """Return a copy of a value in which all dicts have the opposite order."""
+    if isinstance(value, dict):
+        return {key: turned(value[key]) for key in reversed(list(value))}
+    if isinstance(value, (list, tuple)):
+        return value.__class__([turned(part) for part in value])
+    return value
+
+
+class Arguments(unittest.TestCase):
+    def test_arguments_are_unchanged_after_a_call(self):
+        for function, args in CALLS:
+            with self.subTest(function=function.__name__):
+                given = copy.deepcopy(args)
+                before = shown(given)
+                function(*given)
+                self.assertEqual(shown(given), before)
+
+    def test_arguments_are_unchanged_after_an_error(self):
+        rows = [
+            (run_build, (P, G, ["c", "a"], ["u", "s"], dict(R, a="idle"))),
+            (run_builds, (P, G, [PLAN, (["u", "s"], {})])),
+            (pending_in, (P, L, 4)), (cause_of, (P, G, L, 3, "a")), (names_above, (P, G, "x")),
+            (cause_of, (P, {"a": [], "b": [], "c": []}, L, 0, "a")),
+        ]
+        for function, args in rows:
+            with self.subTest(function=function.__name__):
+                given = copy.deepcopy(args)
+                with self.assertRaises(ValueError):
+                    function(*given)
+                self.assertEqual(shown(given), shown(args))
+
+    def test_changes_of_arguments_have_no_effect_on_earlier_results(self):
+        for function, args in CALLS:
+            with self.subTest(function=function.__name__):
+                given = copy.deepcopy(args)
+                result = function(*given)
+                before = shown(result)
+                spoil(given)
+                self.assertEqual(shown(result), before)
+
+    def test_arguments_may_be_given_by_their_names(self):
+        self.assertEqual(names_above(project=P, graph=G, name="a"), ["s"])
+        self.assertEqual(targets_below(project=P, graph=G, name="b"), ["c"])
+        self.assertEqual(is_name(value="a"), is_project(value=P))
+        self.assertEqual(is_graph(project=P, value=G), is_build(project=P, value=L[0]))
+        self.assertTrue(is_log(project=P, value=L))
+        self.assertIsNone(cycle_in(project=P, dependencies=G))
+        self.assertEqual(names_of(project=P), names_of(P))
+        self.assertEqual(target_order(project=P, graph=G), ["a", "b", "c"])
+        run_build(project=P, graph=G, pending=[], changed=[], results=R)
+        self.assertEqual(run_builds(project=P, graph=G, plans=[]), [])
+        self.assertEqual(pending_in(project=P, log=L, index=0), [])
+        self.assertTrue(explains(project=P, graph=G, log=L))
+        self.assertIsNone(first_mismatch(project=P, graph=G, log=L))
+        self.assertEqual(cause_of(project=P, graph=G, log=L, index=1, target="a"), ["a"])
+
+
+class Results(unittest.TestCase):
+    def test_a_changed_result_has_no_effect_on_later_results(self):
+        for function, args in CALLS:
+            with self.subTest(function=function.__name__):
+                given = copy.deepcopy(args)
+                first = function(*given)
+                expected = shown(first)
+                spoil(first)
+                self.assertEqual(shown(given), shown(args))
+                self.assertEqual(shown(function(*given)), expected)
+
+    def test_no_two_lists_or_dicts_are_the_same_object(self):
+        for function, args in CALLS:
+            with self.subTest(function=function.__name__):
+                results = [function(*args), function(*args)]
+                found = [id(holder) for holder in holders(results) + holders(list(args))]
+                ours = found[:len(holders(results))]
+                self.assertEqual(len(set(ours)), len(ours))
+                self.assertFalse(set(ours) & set(found[len(ours):]))
+
+    def test_the_order_in_which_a_dict_was_filled_does_not_matter(self):
+        for function, args in CALLS:
+            with self.subTest(function=function.__name__):
+                self.assertEqual(shown(function(*turned(args))), shown(function(*args)))
+
+    def test_returned_dicts_have_their_keys_in_ascending_order(self):
+        graph = {"c": ["u"], "b": ["c"], "a": ["b"]}
+        for results in all_results(P):
+            statuses = run_build(P, graph, ["b"], ["u"], turned(results))
+            self.assertEqual(list(statuses), ["a", "b", "c"])
+            for build in run_builds(P, graph, [(["u"], turned(results))] * 2):
+                self.assertEqual(list(build[1]), ["a", "b", "c"])
+
+    def test_returned_lists_of_names_are_in_ascending_order(self):
+        graph = {"a": ["c"], "b": ["a", "u"], "c": ["s"]}
+        log = turned([([], {"a": "failed", "b": "blocked", "c": "failed"})])
+        for names in (names_of(P), names_above(P, graph, "b"), targets_below(P, graph, "s"),
+                      pending_in(P, log, 1)):
+            self.assertEqual(names, sorted(names))
+
+    def test_results_are_of_the_plain_kinds(self):
+        self.assertIs(is_project(P), True)
+        self.assertIs(explains(P, G, L), True)
+        self.assertIs(explains(P, dict(G, c=[]), L), False)
+        self.assertIs(first_mismatch(P, dict(G, c=[]), L).__class__, tuple)
+        self.assertEqual([build.__class__ for build in run_builds(P, G, [PLAN])], [tuple])
+
+    def test_a_result_may_be_passed_to_any_function_that_accepts_its_kind(self):
+        statuses = run_build(P, G, targets_below(P, G, "s"), names_above(P, G, "a"), R)
+        log = run_builds(P, G, [PLAN, PLAN])
+        self.assertTrue(is_build(P, (names_above(P, G, "a"), statuses)))
+        self.assertTrue(is_log(P, log))
+        self.assertIsNone(first_mismatch(P, G, log))
+        self.assertEqual(run_build(P, G, pending_in(P, log, 1), [], R), run_builds(
+            P, G, [PLAN, ([], R)])[1][1])
+
+
+if __name__ == "__main__":
+    unittest.main()

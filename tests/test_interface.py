@@ -1,0 +1,88 @@
+"""The interface: each name stands in its file, with its arguments, and the files keep their size."""
+
+import ast
+import os
+import unittest
+
+FOLDER = os.path.join(os.path.dirname(os.path.dirname(os.path.abspath(__file__))), "whyreran")
+
+FUNCTIONS = {
+    "projects": [
+        "is_name(value)", "is_project(value)", "is_graph(project, value)",
+        "is_build(project, value)", "is_log(project, value)", "names_of(project)",
+        "names_above(project, graph, name)", "targets_below(project, graph, name)",
+        "cycle_in(project, dependencies)", "target_order(project, graph)",
+    ],
+    "builds": [
+        "run_build(project, graph, pending, changed, results)",
+        "run_builds(project, graph, plans)", "pending_in(project, log, index)",
+        "explains(project, graph, log)", "first_mismatch(project, graph, log)",
+        "cause_of(project, graph, log, index, target)",
+    ],
+}
+CLASSES = {
+    "errors": [
+        "RerunError", "InvalidProject", "InvalidGraph", "InvalidBuild", "InvalidLog",
+        "InvalidTarget", "InvalidName", "InvalidNames", "InvalidResults", "InvalidNumber",
+        "InvalidMark", "InvalidCommand", "NothingToUndo", "NotExplained", "InvalidText", "TooLarge",
+    ],
+}
+
+
+def read(name):
+    with open(os.path.join(FOLDER, name), encoding="utf-8", newline="") as file:
+        return file.read()
+
+
+def files():
+    return sorted(name for name in os.listdir(FOLDER) if name != "__pycache__")
+
+
+class TheInterface(unittest.TestCase):
+    def test_the_functions_are_defined_in_their_files(self):
+        for module, expected in FUNCTIONS.items():
+            found = [
+                "%s(%s)" % (node.name, ast.unparse(node.args))
+                for node in ast.parse(read(module + ".py")).body
+                if isinstance(node, ast.FunctionDef)
+            ]
+            self.assertLessEqual(set(expected), set(found))
+
+    def test_the_classes_are_defined_in_their_files(self):
+        for module, expected in CLASSES.items():
+            found = [
+                node.name for node in ast.parse(read(module + ".py")).body
+                if isinstance(node, ast.ClassDef)
+            ]
+            self.assertLessEqual(set(expected), set(found))
+
+
+class TheFiles(unittest.TestCase):
+    def test_the_folder_holds_python_files_only(self):
+        self.assertIn("__init__.py", files())
+        self.assertEqual([name for name in files() if not name.endswith(".py")], [])
+
+    def test_sizes_and_signs(self):
+        for name in files():
+            rows = read(name).split("\n")
+            self.assertLessEqual(len(rows), 399, name)
+            for row in rows:
+                self.assertLessEqual(len(row), 120, name)
+                self.assertTrue(all(" " <= sign <= "~" for sign in row), (name, row))
+
+    def test_functions_have_at_most_40_lines(self):
+        for name in files():
+            for node in ast.walk(ast.parse(read(name))):
+                if isinstance(node, ast.FunctionDef):
+                    self.assertLessEqual(node.end_lineno - node.lineno + 1, 40, node.name)
+
+    def test_only_files_of_the_package_are_imported(self):
+        for name in files():
+            for node in ast.walk(ast.parse(read(name))):
+                self.assertNotIsInstance(node, ast.Import)
+                if isinstance(node, ast.ImportFrom):
+                    self.assertEqual(node.module.split(".")[0], "whyreran", name)
+
+
+if __name__ == "__main__":
+    unittest.main()

@@ -1,0 +1,1 @@
+"""whyreran: what build logs tell about hidden dependencies."""

@@ -1,0 +1,82 @@
+"""Checks of arguments. Each one raises the error for its argument, or does nothing."""
+
+from whyreran.errors import (
+    InvalidGraph,
+    InvalidLog,
+    InvalidName,
+    InvalidNames,
+    InvalidNumber,
+    InvalidProject,
+    InvalidResults,
+    InvalidTarget,
+)
+from whyreran.forms import (
+    has_dependencies_form,
+    has_graph_form,
+    has_log_form,
+    has_plans_form,
+    has_project_form,
+    has_results_form,
+    is_one_of,
+    is_selection,
+)
+
+
+def check_project(project):
+    """Raise InvalidProject unless the value is a project."""
+    if not has_project_form(project):
+        raise InvalidProject("this is not a project")
+
+
+def check_graph(project, graph):
+    """Raise InvalidGraph unless the value is a graph of the project."""
+    if not has_graph_form(project, graph):
+        raise InvalidGraph("this is not a graph of the project")
+
+
+def check_dependencies(project, dependencies):
+    """Raise InvalidGraph unless the value is like a graph, but perhaps with cycles."""
+    if not has_dependencies_form(project, dependencies):
+        raise InvalidGraph("these are not the dependencies of every target")
+
+
+def check_log(project, log):
+    """Raise InvalidLog unless the value is a log of the project."""
+    if not has_log_form(project, log):
+        raise InvalidLog("this is not a log of the project")
+
+
+def check_plans(project, plans):
+    """Raise InvalidLog unless the value is a list of plans for builds."""
+    if not has_plans_form(project, plans):
+        raise InvalidLog("this is not a list of plans for builds of the project")
+
+
+def check_target(project, target):
+    """Raise InvalidTarget unless the value is a target of the project."""
+    if not is_one_of(target, project[1]):
+        raise InvalidTarget("this is not a target of the project")
+
+
+def check_name(project, name):
+    """Raise InvalidName unless the value is a name of the project."""
+    if not is_one_of(name, project[0]) and not is_one_of(name, project[1]):
+        raise InvalidName("this is not a name of the project")
+
+
+def check_selection(value, names):
+    """Raise InvalidNames unless the value is a list of some of the names without duplicates."""
+    if not is_selection(value, names):
+        raise InvalidNames("this is not a list of such names without duplicates")
+
+
+def check_results(project, results):
+    """Raise InvalidResults unless the value gives every target a result."""
+    if not has_results_form(project, results):
+        raise InvalidResults("these are not results of the project")
+
+
+def check_number(number, most):
+    """Raise InvalidNumber unless the value is an integer from 0 to the given one."""
+    if not isinstance(number, int) or isinstance(number, bool) or not 0 <= number <= most:
+        raise InvalidNumber("this is not an integer within the bounds")
