@@ -3,6 +3,7 @@
 import copy
 import unittest
 
+from tests.calls import CALLS as RIGHT_CALLS
 from tests.support import G, L, P, all_results
 from whyreran.builds import (
     cause_of,
@@ -12,6 +13,9 @@ from whyreran.builds import (
     run_build,
     run_builds,
 )
+from whyreran.explaining import explanation, find_obstruction, is_explained, lean_explanation
+from whyreran.facts import closure_without, exclusion, needs_of, permitted_names
+from whyreran.judging import is_lean, is_obstruction
 from whyreran.projects import (
     cycle_in,
     is_build,
@@ -28,15 +32,20 @@ from whyreran.projects import (
 R = {"a": "new", "b": "failed", "c": "same"}
 PLAN = (["u", "s"], R)
 CIRCLE = {"a": ["c", "s"], "b": ["a"], "c": ["b"]}
-CALLS = [
-    (is_name, ("a",)), (is_project, (P,)), (is_graph, (P, G)), (is_graph, (P, CIRCLE)),
-    (is_build, (P, L[0])), (is_log, (P, L)), (names_of, (P,)), (names_above, (P, G, "c")),
-    (targets_below, (P, G, "s")), (cycle_in, (P, G)), (cycle_in, (P, CIRCLE)),
-    (target_order, (P, G)), (run_build, (P, G, ["c", "a"], ["u", "s"], R)),
-    (run_builds, (P, G, [PLAN, PLAN, ([], R)])), (pending_in, (P, L, 1)),
-    (pending_in, (P, L, 3)), (explains, (P, G, L)), (first_mismatch, (P, G, L)),
-    (first_mismatch, (P, dict(G, c=["s"]), L)), (cause_of, (P, G, L, 0, "c")),
-    (cause_of, (P, G, L, 1, "c")), (cause_of, (P, G, L, 2, "c")),
+NO_GRAPH = [(["s"], {"a": "new", "b": "new", "c": "new"}),
+            (["s"], {"a": "idle", "b": "same", "c": "idle"})]
+LAPSE = [(["s"], {"a": "new", "b": "new", "c": "failed"}),
+         ([], {"a": "idle", "b": "same", "c": "idle"})]
+CALLS = [(function, args) for function, args, _ in RIGHT_CALLS] + [
+    (is_name, ("a",)), (is_project, (P,)), (is_graph, (P, CIRCLE)), (cycle_in, (P, CIRCLE)),
+    (run_build, (P, G, ["c", "a"], ["u", "s"], R)), (run_builds, (P, G, [PLAN, PLAN, ([], R)])),
+    (pending_in, (P, L, 3)), (first_mismatch, (P, dict(G, c=["s"]), L)),
+    (cause_of, (P, G, L, 0, "c")), (cause_of, (P, G, L, 1, "c")), (cause_of, (P, G, L, 2, "c")),
+    (exclusion, (P, L, "a", "u")), (permitted_names, (P, L, "c")), (needs_of, (P, L, "c")),
+    (closure_without, (P, L, [])), (find_obstruction, (P, NO_GRAPH)),
+    (find_obstruction, (P, LAPSE)), (is_explained, (P, NO_GRAPH)),
+    (is_obstruction, (P, NO_GRAPH, ("group", {"c": 0, "a": 0}))),
+    (is_obstruction, (P, LAPSE, ("idle", 1, "c"))), (is_lean, (P, L, dict(G, c=["b", "s"]))),
 ]
 
 
@@ -120,6 +129,16 @@ class Arguments(unittest.TestCase):
         self.assertTrue(explains(project=P, graph=G, log=L))
         self.assertIsNone(first_mismatch(project=P, graph=G, log=L))
         self.assertEqual(cause_of(project=P, graph=G, log=L, index=1, target="a"), ["a"])
+        self.assertIsNone(exclusion(project=P, log=L, target="b", name="u"))
+        self.assertEqual(permitted_names(project=P, log=[], target="a"), ["b", "c", "s", "u"])
+        self.assertEqual(needs_of(project=P, log=[], target="a"), [])
+        self.assertEqual(closure_without(project=P, log=[], names=["b"]), ["a", "c"])
+        self.assertTrue(is_explained(project=P, log=L))
+        self.assertIsNone(find_obstruction(project=P, log=L))
+        self.assertEqual(list(explanation(project=P, log=L)), ["a", "b", "c"])
+        self.assertEqual(lean_explanation(project=P, log=[]), {"a": [], "b": [], "c": []})
+        self.assertFalse(is_obstruction(project=P, log=L, value=None))
+        self.assertTrue(is_lean(project=P, log=[], graph={"a": [], "b": [], "c": []}))
 
 
 class Results(unittest.TestCase):
@@ -159,7 +178,8 @@ class Results(unittest.TestCase):
         graph = {"a": ["c"], "b": ["a", "u"], "c": ["s"]}
         log = turned([([], {"a": "failed", "b": "blocked", "c": "failed"})])
         for names in (names_of(P), names_above(P, graph, "b"), targets_below(P, graph, "s"),
-                      pending_in(P, log, 1)):
+                      pending_in(P, log, 1), permitted_names(P, [], "b"),
+                      explanation(P, [])["c"], lean_explanation(P, L)["b"]):
             self.assertEqual(names, sorted(names))
 
     def test_results_are_of_the_plain_kinds(self):

@@ -2,37 +2,13 @@
 
 import unittest
 
-from tests.support import G, L, P, odd_values
+from tests.calls import CALLS, EXPLAINING, is_right
+from tests.support import P, odd_values
 from whyreran import errors
-from whyreran.builds import (
-    cause_of,
-    explains,
-    first_mismatch,
-    pending_in,
-    run_build,
-    run_builds,
-)
-from whyreran.errors import (
-    InvalidGraph,
-    InvalidLog,
-    InvalidName,
-    InvalidNames,
-    InvalidNumber,
-    InvalidProject,
-    InvalidResults,
-    InvalidTarget,
-    RerunError,
-)
-from whyreran.projects import (
-    cycle_in,
-    is_build,
-    is_graph,
-    is_log,
-    names_above,
-    names_of,
-    target_order,
-    targets_below,
-)
+from whyreran.errors import InvalidProject, NotExplained, RerunError
+from whyreran.explaining import find_obstruction
+from whyreran.judging import is_obstruction
+from whyreran.projects import is_build, is_graph, is_log
 
 PLAIN = [
     "InvalidProject", "InvalidGraph", "InvalidBuild", "InvalidLog", "InvalidTarget", "InvalidName",
@@ -40,51 +16,18 @@ PLAIN = [
     "NothingToUndo",
 ]
 FIELDS = {"NotExplained": "obstruction", "InvalidText": "position", "TooLarge": "limit"}
-R = {"a": "new", "b": "same", "c": "failed"}
 
-# Each row: the function, right arguments, and where an error can arise, in the order of checking.
-CALLS = [
-    (is_graph, (P, G), [(0, InvalidProject)]),
-    (is_build, (P, L[0]), [(0, InvalidProject)]),
-    (is_log, (P, L), [(0, InvalidProject)]),
-    (names_of, (P,), [(0, InvalidProject)]),
-    (names_above, (P, G, "c"), [(0, InvalidProject), (1, InvalidGraph), (2, InvalidName)]),
-    (targets_below, (P, G, "s"), [(0, InvalidProject), (1, InvalidGraph), (2, InvalidName)]),
-    (cycle_in, (P, G), [(0, InvalidProject), (1, InvalidGraph)]),
-    (target_order, (P, G), [(0, InvalidProject), (1, InvalidGraph)]),
-    (run_build, (P, G, ["a"], ["s"], R), [
-        (0, InvalidProject), (1, InvalidGraph), (2, InvalidNames), (3, InvalidNames),
-        (4, InvalidResults),
-    ]),
-    (run_builds, (P, G, [(["s"], R)]), [(0, InvalidProject), (1, InvalidGraph), (2, InvalidLog)]),
-    (pending_in, (P, L, 1), [(0, InvalidProject), (1, InvalidLog), (2, InvalidNumber)]),
-    (explains, (P, G, L), [(0, InvalidProject), (1, InvalidGraph), (2, InvalidLog)]),
-    (first_mismatch, (P, G, L), [(0, InvalidProject), (1, InvalidGraph), (2, InvalidLog)]),
-    (cause_of, (P, G, L, 1, "b"), [
-        (0, InvalidProject), (1, InvalidGraph), (2, InvalidLog), (4, InvalidTarget),
-        (3, InvalidNumber),
-    ]),
+NEW = {"a": "new", "b": "new", "c": "new"}
+IDLE = {"a": "idle", "b": "idle", "c": "idle"}
+UNEXPLAINED = [
+    [([], NEW)],
+    [(["s"], dict(NEW, b="failed")), ([], IDLE)],
+    [(["s"], dict(IDLE, a="same")), (["s"], dict(IDLE, c="same"))],
 ]
 
 
-def is_right(function, at, value):
-    """Tell whether one of the odd values is a right one in this place after all."""
-    if isinstance(value, list) and not value:
-        return (function, at) in [
-            (run_build, 2), (run_build, 3), (run_builds, 2), (pending_in, 1), (explains, 2),
-            (first_mismatch, 2), (cause_of, 2),
-        ]
-    if isinstance(value, str) and value in ("s", "a"):
-        return (function, at) in [(names_above, 2), (targets_below, 2)] or (
-            value == "a" and (function, at) == (cause_of, 4)
-        )
-    if isinstance(value, int) and not isinstance(value, bool) and value in (0, 1):
-        return (function, at) in [(pending_in, 2), (cause_of, 3)]
-    return False
-
-
-def wrong_values(function, at):
-    return [value for value in odd_values() if not is_right(function, at, value)]
+def wrong_values(function, error):
+    return [value for value in odd_values() if not is_right(function, error, value)]
 
 
 class TheClasses(unittest.TestCase):
@@ -123,7 +66,7 @@ class TheArguments(unittest.TestCase):
     def test_any_value_in_the_place_of_an_argument(self):
         for function, args, places in CALLS:
             for at, error in places:
-                for value in wrong_values(function, at):
+                for value in wrong_values(function, error):
                     with self.subTest(function=function.__name__, at=at, value=repr(value)):
                         row = list(args)
                         row[at] = value
@@ -152,6 +95,8 @@ class TheArguments(unittest.TestCase):
             for value in odd_values():
                 expected = function is is_log and isinstance(value, list) and not value
                 self.assertIs(function(P, value), expected, repr(value))
+        for value in odd_values():
+            self.assertIs(is_obstruction(P, [], value), False, repr(value))
 
     def test_the_project_is_checked_first_also_if_the_value_is_wrong(self):
         for function in (is_graph, is_build, is_log):
@@ -162,6 +107,51 @@ class TheArguments(unittest.TestCase):
             function(*row)
         self.assertIs(caught.exception.__class__, error)
         self.assertEqual(vars(caught.exception), {})
+
+
+class LogsThatNoGraphExplains(unittest.TestCase):
+    def test_the_field_is_what_find_obstruction_returns(self):
+        for log in UNEXPLAINED:
+            expected = find_obstruction(P, log)
+            self.assertIsNotNone(expected)
+            for function, args, _ in CALLS:
+                if function in EXPLAINING:
+                    row = list(args)
+                    row[1] = log
+                    with self.assertRaises(NotExplained) as caught:
+                        function(*row)
+                    self.assertEqual(caught.exception.obstruction, expected, function.__name__)
+                    self.assertEqual(vars(caught.exception), {"obstruction": expected})
+
+    def test_no_other_function_raises_it(self):
+        for log in UNEXPLAINED:
+            for function, args, places in CALLS:
+                if function not in EXPLAINING and (1, errors.InvalidLog) in places:
+                    row = list(args)
+                    row[1] = log
+                    function(*row)
+
+    def test_wrong_arguments_come_first(self):
+        for function, args, places in CALLS:
+            for at, error in places[2:]:
+                if function in EXPLAINING:
+                    row = list(args)
+                    row[1] = UNEXPLAINED[0]
+                    row[at] = None
+                    with self.assertRaises(error):
+                        function(*row)
+
+    def test_a_changed_field_has_no_effect_on_later_errors(self):
+        for function, args, _ in CALLS:
+            if function in EXPLAINING:
+                row = list(args)
+                row[1] = UNEXPLAINED[0]
+                for _ in range(2):
+                    with self.assertRaises(NotExplained) as caught:
+                        function(*row)
+                    word, choices = caught.exception.obstruction
+                    self.assertEqual((word, choices), ("group", {"a": 0, "b": 0, "c": 0}))
+                    choices.clear()
 
 
 if __name__ == "__main__":

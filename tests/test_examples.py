@@ -97,6 +97,72 @@ False
 >>> [cause_of(P, G, L, 0, "c"), cause_of(P, G, L, 0, "b"), cause_of(P, G, L, 1, "b"), cause_of(P, G, L, 1, "c")]
 [['s', 'c'], ['a', 'b'], ['b'], None]
 """,
+    22: """
+>>> from whyreran.facts import exclusion
+>>> p = (["s"], ["a", "b", "c"])
+>>> z = [(["s"], {"a": "new", "b": "idle", "c": "failed"}), ([], {"a": "idle", "b": "idle", "c": "same"})]
+>>> [exclusion(p, z, "b", "s"), exclusion(p, z, "b", "c"), exclusion(p, z, "c", "s")]
+[(0, 'changed'), (0, 'broken'), None]
+""",
+    23: """
+>>> from whyreran.facts import permitted_names
+>>> p = (["s", "u"], ["a", "b", "c"])
+>>> z = [(["s"], {"a": "failed", "b": "blocked", "c": "new"}), ([], {"a": "same", "b": "new", "c": "idle"})]
+>>> [permitted_names(p, z, target) for target in ["a", "b", "c"]]
+[['c', 's', 'u'], ['a', 'c', 's', 'u'], ['s', 'u']]
+""",
+    24: """
+>>> from whyreran.facts import needs_of
+>>> p = (["s", "u"], ["a", "b", "c"])
+>>> z = [(["s"], {"a": "failed", "b": "blocked", "c": "new"}), ([], {"a": "same", "b": "new", "c": "idle"})]
+>>> [needs_of(p, z, target) for target in ["a", "b", "c"]]
+[[(0, ['c', 's'])], [(0, ['a'])], [(0, ['s'])]]
+""",
+    25: """
+>>> from whyreran.facts import closure_without
+>>> p = (["s", "u"], ["a", "b", "c"])
+>>> z = [(["s"], {"a": "failed", "b": "blocked", "c": "new"}), ([], {"a": "same", "b": "new", "c": "idle"})]
+>>> [closure_without(p, z, names) for names in [[], ["u"], ["a"], ["s"]]]
+[['a', 'b', 'c'], ['a', 'b', 'c'], ['c'], []]
+""",
+    26: """
+>>> from whyreran.explaining import is_explained
+>>> p = (["s"], ["a", "b"])
+>>> [is_explained(p, []), is_explained(p, [([], {"a": "new", "b": "idle"})])]
+[True, False]
+""",
+    27: """
+>>> from whyreran.explaining import explanation
+>>> p = (["s", "u"], ["a", "b", "c"])
+>>> z = [(["s"], {"a": "failed", "b": "blocked", "c": "new"}), ([], {"a": "same", "b": "new", "c": "idle"})]
+>>> explanation(p, z)
+{'a': ['s', 'u'], 'b': ['a', 's', 'u'], 'c': ['s', 'u']}
+""",
+    28: """
+>>> from whyreran.explaining import find_obstruction
+>>> p = (["s"], ["a", "b"])
+>>> x = [(["s"], {"a": "new", "b": "new"}), (["s"], {"a": "idle", "b": "idle"})]
+>>> y = [(["s"], {"a": "failed", "b": "idle"}), ([], {"a": "idle", "b": "idle"})]
+>>> [find_obstruction(p, x), find_obstruction(p, y)]
+[('group', {'a': 0, 'b': 0}), ('idle', 1, 'a')]
+""",
+    29: """
+>>> from whyreran.judging import is_obstruction
+>>> p = (["s"], ["a", "b"])
+>>> x = [(["s"], {"a": "new", "b": "new"}), (["s"], {"a": "idle", "b": "idle"})]
+>>> [is_obstruction(p, x, value) for value in [("group", {"b": 0, "a": 0}), ("group", {"a": 0}), ("idle", 1, "a")]]
+[True, False, False]
+""",
+    30: """
+>>> from whyreran.explaining import lean_explanation
+>>> lean_explanation((["s", "u"], ["a", "b"]), [(["s"], {"a": "new", "b": "idle"})])
+{'a': ['s'], 'b': []}
+
+>>> from whyreran.judging import is_lean
+>>> p = (["s", "u"], ["a"])
+>>> [is_lean(p, [(["s"], {"a": "new"})], {"a": names}) for names in [["s"], ["s", "u"], ["u"]]]
+[True, False, False]
+""",
 }
 
 

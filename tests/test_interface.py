@@ -19,6 +19,15 @@ FUNCTIONS = {
         "explains(project, graph, log)", "first_mismatch(project, graph, log)",
         "cause_of(project, graph, log, index, target)",
     ],
+    "facts": [
+        "exclusion(project, log, target, name)", "permitted_names(project, log, target)",
+        "needs_of(project, log, target)", "closure_without(project, log, names)",
+    ],
+    "explaining": [
+        "is_explained(project, log)", "explanation(project, log)",
+        "find_obstruction(project, log)", "lean_explanation(project, log)",
+    ],
+    "judging": ["is_obstruction(project, log, value)", "is_lean(project, log, graph)"],
 }
 CLASSES = {
     "errors": [

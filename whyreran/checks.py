@@ -17,6 +17,7 @@ from whyreran.forms import (
     has_plans_form,
     has_project_form,
     has_results_form,
+    is_integer_up_to,
     is_one_of,
     is_selection,
 )
@@ -64,6 +65,13 @@ def check_name(project, name):
         raise InvalidName("this is not a name of the project")
 
 
+def check_other_name(project, target, name):
+    """Raise InvalidName unless the value is a name of the project other than the target."""
+    check_name(project, name)
+    if name == target:
+        raise InvalidName("this is the target itself")
+
+
 def check_selection(value, names):
     """Raise InvalidNames unless the value is a list of some of the names without duplicates."""
     if not is_selection(value, names):
@@ -78,5 +86,5 @@ def check_results(project, results):
 
 def check_number(number, most):
     """Raise InvalidNumber unless the value is an integer from 0 to the given one."""
-    if not isinstance(number, int) or isinstance(number, bool) or not 0 <= number <= most:
+    if not is_integer_up_to(number, most):
         raise InvalidNumber("this is not an integer within the bounds")

@@ -53,6 +53,11 @@ def is_one_of(value, names):
     return isinstance(value, str) and value in names
 
 
+def is_integer_up_to(value, most):
+    """Tell whether a value is an integer from 0 to the given one."""
+    return isinstance(value, int) and not isinstance(value, bool) and 0 <= value <= most
+
+
 def is_selection(value, names):
     """Tell whether a value is a list of some of the names without duplicates, in any order."""
     if not isinstance(value, list) or not all([is_one_of(name, names) for name in value]):

@@ -1,0 +1,98 @@
+"""Right calls of all functions, and where which error can arise in them, for the tests."""
+
+from tests.support import G, L, P
+from whyreran.builds import (
+    cause_of,
+    explains,
+    first_mismatch,
+    pending_in,
+    run_build,
+    run_builds,
+)
+from whyreran.errors import (
+    InvalidGraph,
+    InvalidLog,
+    InvalidName,
+    InvalidNames,
+    InvalidNumber,
+    InvalidProject,
+    InvalidResults,
+    InvalidTarget,
+)
+from whyreran.explaining import explanation, find_obstruction, is_explained, lean_explanation
+from whyreran.facts import closure_without, exclusion, needs_of, permitted_names
+from whyreran.judging import is_lean, is_obstruction
+from whyreran.projects import (
+    cycle_in,
+    is_build,
+    is_graph,
+    is_log,
+    names_above,
+    names_of,
+    target_order,
+    targets_below,
+)
+
+R = {"a": "new", "b": "same", "c": "failed"}
+
+PROJECT = (0, InvalidProject)
+GRAPH = (1, InvalidGraph)
+LOG = (1, InvalidLog)
+TARGET = (2, InvalidTarget)
+
+# Each row: the function, right arguments, and where an error can arise, in the order of checking.
+CALLS = [
+    (is_graph, (P, G), [PROJECT]),
+    (is_build, (P, L[0]), [PROJECT]),
+    (is_log, (P, L), [PROJECT]),
+    (names_of, (P,), [PROJECT]),
+    (names_above, (P, G, "c"), [PROJECT, GRAPH, (2, InvalidName)]),
+    (targets_below, (P, G, "s"), [PROJECT, GRAPH, (2, InvalidName)]),
+    (cycle_in, (P, G), [PROJECT, GRAPH]),
+    (target_order, (P, G), [PROJECT, GRAPH]),
+    (run_build, (P, G, ["a"], ["s"], R), [
+        PROJECT, GRAPH, (2, InvalidNames), (3, InvalidNames), (4, InvalidResults),
+    ]),
+    (run_builds, (P, G, [(["s"], R)]), [PROJECT, GRAPH, (2, InvalidLog)]),
+    (pending_in, (P, L, 1), [PROJECT, LOG, (2, InvalidNumber)]),
+    (explains, (P, G, L), [PROJECT, GRAPH, (2, InvalidLog)]),
+    (first_mismatch, (P, G, L), [PROJECT, GRAPH, (2, InvalidLog)]),
+    (cause_of, (P, G, L, 1, "b"), [
+        PROJECT, GRAPH, (2, InvalidLog), (4, InvalidTarget), (3, InvalidNumber),
+    ]),
+    (exclusion, (P, L, "b", "s"), [PROJECT, LOG, TARGET, (3, InvalidName)]),
+    (permitted_names, (P, L, "b"), [PROJECT, LOG, TARGET]),
+    (needs_of, (P, L, "b"), [PROJECT, LOG, TARGET]),
+    (closure_without, (P, L, ["u", "a"]), [PROJECT, LOG, (2, InvalidNames)]),
+    (is_explained, (P, L), [PROJECT, LOG]),
+    (explanation, (P, L), [PROJECT, LOG]),
+    (find_obstruction, (P, L), [PROJECT, LOG]),
+    (lean_explanation, (P, L), [PROJECT, LOG]),
+    (is_obstruction, (P, L, ("group", {"a": 0})), [PROJECT, LOG]),
+    (is_lean, (P, L, G), [PROJECT, LOG, (2, InvalidGraph)]),
+]
+
+# The functions that raise NotExplained.
+EXPLAINING = [explanation, lean_explanation]
+
+# The functions that take names of any kind, and so also some of the lists of other values.
+TAKING_ANY_NAMES = [closure_without]
+
+
+def is_right(function, error, value):
+    """Tell whether one of the odd values is a right one in the place of this error after all."""
+    if isinstance(value, list):
+        if error in (InvalidLog, InvalidNames) and not value:
+            return True
+        return error is InvalidNames and function in TAKING_ANY_NAMES and is_pair_of_names(value)
+    if isinstance(value, str):
+        return (error is InvalidName and value in ("s", "a")) or (
+            error is InvalidTarget and value == "a"
+        )
+    if isinstance(value, int) and not isinstance(value, bool):
+        return error is InvalidNumber and value in (0, 1)
+    return False
+
+
+def is_pair_of_names(value):
+    return all(isinstance(name, str) for name in value) and value == ["s", "a"]

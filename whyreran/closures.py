@@ -1,0 +1,95 @@
+"""Closures (point 11): orders of targets, the graphs that follow from them, and obstructions."""
+
+from whyreran.columns import first_index
+from whyreran.errors import NotExplained
+from whyreran.forms import is_integer_up_to, is_one_of
+
+
+def closure(evidence, names):
+    """Return the closure without the names."""
+    return spread(evidence, [], names)[0]
+
+
+def spread(evidence, start, names):
+    """Append all targets that can be appended behind those of the start, without the names.
+
+    Return the order, and a dict from the targets that are neither in it nor among the names to the
+    places of the needs that still keep them out.
+    """
+    order = list(start)
+    at_hand = [source for source in evidence.sources if source not in names] + order
+    left = {
+        target: evidence.lack(target, at_hand)
+        for target in evidence.targets if target not in names and target not in order
+    }
+    ready = _first_ready(left)
+    while ready is not None:
+        order.append(ready)
+        left = {
+            target: left[target] & ~evidence.helps[target].get(ready, 0)
+            for target in left if target != ready
+        }
+        ready = _first_ready(left)
+    return order, left
+
+
+def _first_ready(left):
+    for target in left:
+        if not left[target]:
+            return target
+    return None
+
+
+def graph_in_order(evidence, order):
+    """Return the graph in which each target has all dependencies that the order lets it have."""
+    graph = {}
+    at_hand = {source: True for source in evidence.sources}
+    for target in order:
+        graph[target] = [name for name in evidence.helps[target] if name in at_hand]
+        at_hand[target] = True
+    return {target: graph[target] for target in evidence.targets}
+
+
+def stuck_groups(evidence, names):
+    """Return the targets outside the closure and the names, each with the first build to blame."""
+    left = spread(evidence, [], names)[1]
+    return {target: first_index(left[target]) for target in left}
+
+
+def is_stuck_group(evidence, names, value):
+    """Tell whether a value gives targets to blame builds for, as is_stuck asks."""
+    if not isinstance(value, dict):
+        return False
+    for key in value:
+        if not is_one_of(key, evidence.targets) or key in names:
+            return False
+    held = [*names, *value]
+    return all([_is_held_at(evidence, target, value[target], held) for target in value])
+
+
+def _is_held_at(evidence, target, index, held):
+    """Tell whether the target has a need in a build, and the whole need is among the held names."""
+    if not is_integer_up_to(index, evidence.length - 1):
+        return False
+    need = evidence.need_at(target, index)
+    return need is not None and all([name in held for name in need])
+
+
+def obstruction_in(evidence):
+    """Return the obstruction that find_obstruction returns, or None."""
+    lapses = [
+        (first_index(evidence.lapses[target]), target)
+        for target in evidence.targets if evidence.lapses[target]
+    ]
+    if lapses:
+        index, target = min(lapses)
+        return ("idle", index, target)
+    choices = stuck_groups(evidence, [])
+    return ("group", choices) if choices else None
+
+
+def check_explained(evidence):
+    """Raise NotExplained if no graph explains the log."""
+    obstruction = obstruction_in(evidence)
+    if obstruction is not None:
+        raise NotExplained(obstruction)
