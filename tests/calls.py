@@ -1,6 +1,13 @@
 """Right calls of all functions, and where which error can arise in them, for the tests."""
 
 from tests.support import G, L, P
+from whyreran.avoiding import (
+    avoiding_graph,
+    certain_above,
+    certain_below,
+    is_stuck,
+    stuck_choices,
+)
 from whyreran.builds import (
     cause_of,
     explains,
@@ -9,7 +16,21 @@ from whyreran.builds import (
     run_build,
     run_builds,
 )
+from whyreran.counting import (
+    count_explanations,
+    count_with,
+    explanation_number,
+    nth_explanation,
+)
+from whyreran.deciding import (
+    certain_dependencies,
+    graph_with,
+    graph_without,
+    possible_dependencies,
+    standing_of,
+)
 from whyreran.errors import (
+    InvalidBuild,
     InvalidGraph,
     InvalidLog,
     InvalidName,
@@ -22,6 +43,15 @@ from whyreran.errors import (
 from whyreran.explaining import explanation, find_obstruction, is_explained, lean_explanation
 from whyreran.facts import closure_without, exclusion, needs_of, permitted_names
 from whyreran.judging import is_lean, is_obstruction
+from whyreran.next_builds import (
+    certain_blocked,
+    fits_next,
+    fitting_statuses,
+    least_rerun_graph,
+    least_reruns,
+    may_run,
+    must_run,
+)
 from whyreran.projects import (
     cycle_in,
     is_build,
@@ -70,13 +100,44 @@ CALLS = [
     (lean_explanation, (P, L), [PROJECT, LOG]),
     (is_obstruction, (P, L, ("group", {"a": 0})), [PROJECT, LOG]),
     (is_lean, (P, L, G), [PROJECT, LOG, (2, InvalidGraph)]),
+    (standing_of, (P, L, "b", "s"), [PROJECT, LOG, TARGET, (3, InvalidName)]),
+    (certain_dependencies, (P, L, "b"), [PROJECT, LOG, TARGET]),
+    (possible_dependencies, (P, L, "b"), [PROJECT, LOG, TARGET]),
+    (graph_with, (P, L, "b", "a"), [PROJECT, LOG, TARGET, (3, InvalidName)]),
+    (graph_without, (P, L, "b", "s"), [PROJECT, LOG, TARGET, (3, InvalidName)]),
+    (certain_above, (P, L, "b"), [PROJECT, LOG, TARGET]),
+    (certain_below, (P, L, "s"), [PROJECT, LOG, (2, InvalidName)]),
+    (avoiding_graph, (P, L, ["u", "a"]), [PROJECT, LOG, (2, InvalidNames)]),
+    (stuck_choices, (P, L, ["s"]), [PROJECT, LOG, (2, InvalidNames)]),
+    (is_stuck, (P, L, ["s"], {"a": 0}), [PROJECT, LOG, (2, InvalidNames)]),
+    (must_run, (P, L, "b", ["s", "a"]), [PROJECT, LOG, TARGET, (3, InvalidNames)]),
+    (may_run, (P, L, "b", ["s", "a"]), [PROJECT, LOG, TARGET, (3, InvalidNames)]),
+    (least_reruns, (P, L, ["u", "s"]), [PROJECT, LOG, (2, InvalidNames)]),
+    (least_rerun_graph, (P, L, ["u", "s"]), [PROJECT, LOG, (2, InvalidNames)]),
+    (certain_blocked, (P, L, "a"), [PROJECT, LOG, TARGET]),
+    (fits_next, (P, L, L[2]), [PROJECT, LOG, (2, InvalidBuild)]),
+    (fitting_statuses, (P, L, L[2], "b"), [PROJECT, LOG, (2, InvalidBuild), (3, InvalidTarget)]),
+    (count_explanations, (P, L), [PROJECT, LOG]),
+    (count_with, (P, L, "b", "s"), [PROJECT, LOG, TARGET, (3, InvalidName)]),
+    (nth_explanation, (P, L, 1), [PROJECT, LOG, (2, InvalidNumber)]),
+    (explanation_number, (P, L, G), [PROJECT, LOG, (2, InvalidGraph)]),
 ]
 
 # The functions that raise NotExplained.
-EXPLAINING = [explanation, lean_explanation]
+EXPLAINING = [
+    explanation, lean_explanation, standing_of, certain_dependencies, possible_dependencies,
+    graph_with, graph_without, certain_above, certain_below, avoiding_graph, stuck_choices,
+    must_run, may_run, least_reruns, least_rerun_graph, certain_blocked, fits_next,
+    fitting_statuses,
+]
+
+# The functions that raise other errors for a log that no graph explains.
+REFUSING = [nth_explanation, explanation_number]
 
 # The functions that take names of any kind, and so also some of the lists of other values.
-TAKING_ANY_NAMES = [closure_without]
+TAKING_ANY_NAMES = [
+    closure_without, avoiding_graph, stuck_choices, is_stuck, must_run, may_run,
+]
 
 
 def is_right(function, error, value):

@@ -5,6 +5,13 @@ import unittest
 
 from tests.calls import CALLS as RIGHT_CALLS
 from tests.support import G, L, P, all_results
+from whyreran.avoiding import (
+    avoiding_graph,
+    certain_above,
+    certain_below,
+    is_stuck,
+    stuck_choices,
+)
 from whyreran.builds import (
     cause_of,
     explains,
@@ -13,9 +20,31 @@ from whyreran.builds import (
     run_build,
     run_builds,
 )
+from whyreran.counting import (
+    count_explanations,
+    count_with,
+    explanation_number,
+    nth_explanation,
+)
+from whyreran.deciding import (
+    certain_dependencies,
+    graph_with,
+    graph_without,
+    possible_dependencies,
+    standing_of,
+)
 from whyreran.explaining import explanation, find_obstruction, is_explained, lean_explanation
 from whyreran.facts import closure_without, exclusion, needs_of, permitted_names
 from whyreran.judging import is_lean, is_obstruction
+from whyreran.next_builds import (
+    certain_blocked,
+    fits_next,
+    fitting_statuses,
+    least_rerun_graph,
+    least_reruns,
+    may_run,
+    must_run,
+)
 from whyreran.projects import (
     cycle_in,
     is_build,
@@ -46,6 +75,12 @@ CALLS = [(function, args) for function, args, _ in RIGHT_CALLS] + [
     (find_obstruction, (P, LAPSE)), (is_explained, (P, NO_GRAPH)),
     (is_obstruction, (P, NO_GRAPH, ("group", {"c": 0, "a": 0}))),
     (is_obstruction, (P, LAPSE, ("idle", 1, "c"))), (is_lean, (P, L, dict(G, c=["b", "s"]))),
+    (graph_with, (P, L, "a", "b")), (graph_without, (P, L, "b", "a")), (graph_with, (P, [], "a", "c")),
+    (graph_without, (P, [], "a", "c")), (stuck_choices, (P, L, [])), (avoiding_graph, (P, L, [])),
+    (avoiding_graph, (P, [], ["b", "s"])), (is_stuck, (P, NO_GRAPH, [], {"b": 1, "a": 0})),
+    (least_reruns, (P, L[:1], [])), (least_rerun_graph, (P, L[:1], [])), (must_run, (P, L, "a", [])),
+    (fits_next, (P, L[:1], L[1])), (fitting_statuses, (P, [], L[0], "c")), (nth_explanation, (P, [], 77)),
+    (explanation_number, (P, [], G)), (count_explanations, (P, NO_GRAPH)),
 ]
 
 
@@ -140,6 +175,30 @@ class Arguments(unittest.TestCase):
         self.assertFalse(is_obstruction(project=P, log=L, value=None))
         self.assertTrue(is_lean(project=P, log=[], graph={"a": [], "b": [], "c": []}))
 
+    def test_arguments_of_the_later_parts_may_be_given_by_their_names(self):
+        first = {"project": P, "log": L}
+        pair = dict(first, target="b", name="u")
+        self.assertEqual(standing_of(**pair), "certain")
+        self.assertIn("u", graph_with(**pair)["b"])
+        self.assertIsNone(graph_without(**pair))
+        self.assertEqual(count_with(**pair), count_explanations(**first))
+        self.assertEqual(certain_dependencies(**first, target="b"), ["u"])
+        self.assertEqual(possible_dependencies(**first, target="b"), ["a", "c", "s", "u"])
+        self.assertEqual(certain_above(**first, target="a"), ["s"])
+        self.assertEqual(certain_below(**first, name="a"), ["b", "c"])
+        self.assertEqual(list(avoiding_graph(**first, names=["u"])), ["a", "b", "c"])
+        self.assertEqual(stuck_choices(**first, names=["s"]), {"a": 0, "b": 0, "c": 0})
+        self.assertTrue(is_stuck(**first, names=["s"], value={"a": 0}))
+        self.assertTrue(must_run(**first, target="b", changed=["u"]))
+        self.assertTrue(may_run(**first, target="b", changed=["u"]))
+        self.assertEqual(least_reruns(**first, changed=[]), [])
+        self.assertEqual(list(least_rerun_graph(**first, changed=[])), ["a", "b", "c"])
+        self.assertEqual(certain_blocked(**first, target="a"), ["b", "c"])
+        self.assertTrue(fits_next(**first, build=L[2]))
+        self.assertIn("new", fitting_statuses(**first, build=L[2], target="b"))
+        graph = nth_explanation(**first, number=0)
+        self.assertEqual(explanation_number(**first, graph=graph), 0)
+
 
 class Results(unittest.TestCase):
     def test_a_changed_result_has_no_effect_on_later_results(self):
@@ -179,7 +238,10 @@ class Results(unittest.TestCase):
         log = turned([([], {"a": "failed", "b": "blocked", "c": "failed"})])
         for names in (names_of(P), names_above(P, graph, "b"), targets_below(P, graph, "s"),
                       pending_in(P, log, 1), permitted_names(P, [], "b"),
-                      explanation(P, [])["c"], lean_explanation(P, L)["b"]):
+                      explanation(P, [])["c"], lean_explanation(P, L)["b"],
+                      possible_dependencies(P, L, "b"), certain_dependencies(P, L, "b"),
+                      certain_above(P, L, "c"), certain_below(P, L, "s"),
+                      least_reruns(P, L, ["u", "s"]), nth_explanation(P, [], 900)["a"]):
             self.assertEqual(names, sorted(names))
 
     def test_results_are_of_the_plain_kinds(self):

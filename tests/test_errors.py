@@ -2,7 +2,7 @@
 
 import unittest
 
-from tests.calls import CALLS, EXPLAINING, is_right
+from tests.calls import CALLS, EXPLAINING, REFUSING, is_right
 from tests.support import P, odd_values
 from whyreran import errors
 from whyreran.errors import InvalidProject, NotExplained, RerunError
@@ -126,7 +126,7 @@ class LogsThatNoGraphExplains(unittest.TestCase):
     def test_no_other_function_raises_it(self):
         for log in UNEXPLAINED:
             for function, args, places in CALLS:
-                if function not in EXPLAINING and (1, errors.InvalidLog) in places:
+                if function not in EXPLAINING + REFUSING and (1, errors.InvalidLog) in places:
                     row = list(args)
                     row[1] = log
                     function(*row)

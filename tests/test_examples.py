@@ -163,6 +163,110 @@ False
 >>> [is_lean(p, [(["s"], {"a": "new"})], {"a": names}) for names in [["s"], ["s", "u"], ["u"]]]
 [True, False, False]
 """,
+    31: """
+>>> from whyreran.deciding import standing_of
+>>> project = (['s', 'u'], ['a', 'b'])
+>>> log = [(['s'], {'a': 'failed', 'b': 'blocked'})]
+>>> [standing_of(project, log, 'b', name) for name in ['a', 's', 'u']] + [standing_of(project, log, 'a', 'b')]
+['certain', 'open', 'open', 'impossible']
+""",
+    32: """
+>>> from whyreran.deciding import certain_dependencies, possible_dependencies
+>>> project = (['s', 'u'], ['t', 'x'])
+>>> log = [(['s'], {'t': 'new', 'x': 'new'}), (['s'], {'t': 'same', 'x': 'idle'})]
+>>> certain = [certain_dependencies(project, log, target) for target in ['t', 'x']]
+>>> certain + [possible_dependencies(project, log, target) for target in ['t', 'x']]
+[['s'], ['t'], ['s', 'u'], ['t', 'u']]
+""",
+    33: """
+>>> from whyreran.deciding import graph_with, graph_without
+>>> project = (['s', 'u'], ['a'])
+>>> log = [(['s'], {'a': 'new'}), (['u'], {'a': 'idle'})]
+>>> [graph_with(project, log, 'a', 's'), graph_without(project, log, 'a', 's'), graph_with(project, log, 'a', 'u')]
+[{'a': ['s']}, None, None]
+""",
+    36: """
+>>> from whyreran.avoiding import certain_above, certain_below
+>>> P = (["s", "u"], ["a", "b", "c"])
+>>> L = [(["s"], {"a": "failed", "b": "blocked", "c": "new"}), ([], {"a": "same", "b": "new", "c": "idle"})]
+>>> [certain_above(P, L, "b"), certain_above(P, L, "c"), certain_below(P, L, "a"), certain_below(P, L, "u")]
+[['a', 's'], ['s'], ['b'], []]
+""",
+    37: """
+>>> from whyreran.avoiding import avoiding_graph, stuck_choices
+>>> P = (["s", "u"], ["a", "b", "c"])
+>>> L = [(["s"], {"a": "failed", "b": "blocked", "c": "new"}), ([], {"a": "same", "b": "new", "c": "idle"})]
+>>> [avoiding_graph(P, L, ["s", "u"])["a"] == [], stuck_choices(P, L, ["s"]), stuck_choices(P, L, ["a"])]
+[False, {'a': 0, 'b': 0, 'c': 0}, {'b': 0}]
+""",
+    38: """
+>>> from whyreran.avoiding import is_stuck
+>>> P = (["s", "u"], ["a", "b", "c"])
+>>> L = [(["s"], {"a": "failed", "b": "blocked", "c": "new"}), ([], {"a": "same", "b": "new", "c": "idle"})]
+>>> [is_stuck(P, L, names, {"c": 0}) for names in [["s"], ["u"], []]]
+[True, False, False]
+""",
+    40: """
+>>> from whyreran.next_builds import may_run, must_run
+>>> P = (["s", "u"], ["a", "b", "c"])
+>>> L = [(["s"], {"a": "failed", "b": "blocked", "c": "new"}), ([], {"a": "same", "b": "new", "c": "idle"})]
+>>> [must_run(P, L, "a", ["s"]), must_run(P, L, "a", ["s", "c"]), may_run(P, L, "a", ["u"]), may_run(P, L, "c", ["a"])]
+[False, True, True, False]
+""",
+    41: """
+>>> from whyreran.next_builds import least_reruns
+>>> P = (["s", "u"], ["a", "b", "c"])
+>>> L = [(["s"], {"a": "failed", "b": "blocked", "c": "new"}), ([], {"a": "same", "b": "new", "c": "idle"})]
+>>> [least_reruns(P, L, ["u"]), least_reruns(P, L, ["s"]), least_reruns(P, L[:1], [])]
+[[], ['a', 'b', 'c'], ['a', 'b']]
+""",
+    42: """
+>>> from whyreran.next_builds import certain_blocked
+>>> P = (["s", "u"], ["a", "b", "c"])
+>>> L = [(["s"], {"a": "failed", "b": "blocked", "c": "new"}), ([], {"a": "same", "b": "new", "c": "idle"})]
+>>> [certain_blocked(P, L, "a"), certain_blocked(P, L, "c"), certain_blocked(P, [], "a")]
+[['b'], [], []]
+""",
+    43: """
+>>> from whyreran.next_builds import fits_next
+>>> P = (["s", "u"], ["a", "b", "c"])
+>>> L = [(["s"], {"a": "failed", "b": "blocked", "c": "new"}), ([], {"a": "same", "b": "new", "c": "idle"})]
+>>> idle = {"a": "idle", "b": "idle", "c": "idle"}
+>>> [fits_next(P, L, (["u"], idle)), fits_next(P, L, (["s"], idle)), fits_next(P, L[:1], ([], idle))]
+[True, False, False]
+""",
+    44: """
+>>> from whyreran.next_builds import fitting_statuses
+>>> P = (["s", "u"], ["a", "b", "c"])
+>>> L = [(["s"], {"a": "failed", "b": "blocked", "c": "new"}), ([], {"a": "same", "b": "new", "c": "idle"})]
+>>> idle = {"a": "idle", "b": "idle", "c": "idle"}
+>>> fitting_statuses(P, L, (["u"], idle), "c")
+['new', 'same', 'failed', 'idle']
+""",
+    45: """
+>>> from whyreran.counting import count_explanations
+>>> [count_explanations((['s'], ['a', 'b']), log) for log in [[(['s'], {'a': 'new', 'b': 'new'})], []]]
+[5, 12]
+""",
+    46: """
+>>> from whyreran.counting import count_with
+>>> project = (['s'], ['a', 'b'])
+>>> log = [(['s'], {'a': 'new', 'b': 'new'})]
+>>> [count_with(project, log, 'a', 'b'), count_with(project, log, 'a', 's')]
+[2, 4]
+""",
+    47: """
+>>> from whyreran.counting import nth_explanation
+>>> project = (['s'], ['a', 'b'])
+>>> log = [(['s'], {'a': 'new', 'b': 'new'})]
+>>> [nth_explanation(project, log, number) for number in [0, 1, 4]]
+[{'a': ['s'], 'b': ['s']}, {'a': ['s'], 'b': ['a']}, {'a': ['b', 's'], 'b': ['s']}]
+
+>>> from whyreran.counting import explanation_number
+>>> log = [(['s'], {'a': 'new', 'b': 'new'})]
+>>> explanation_number((['s'], ['a', 'b']), log, {'a': ['s'], 'b': ['a', 's']})
+2
+""",
 }
 
 

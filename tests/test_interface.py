@@ -28,6 +28,26 @@ FUNCTIONS = {
         "find_obstruction(project, log)", "lean_explanation(project, log)",
     ],
     "judging": ["is_obstruction(project, log, value)", "is_lean(project, log, graph)"],
+    "deciding": [
+        "standing_of(project, log, target, name)", "certain_dependencies(project, log, target)",
+        "possible_dependencies(project, log, target)", "graph_with(project, log, target, name)",
+        "graph_without(project, log, target, name)",
+    ],
+    "avoiding": [
+        "certain_above(project, log, target)", "certain_below(project, log, name)",
+        "avoiding_graph(project, log, names)", "stuck_choices(project, log, names)",
+        "is_stuck(project, log, names, value)",
+    ],
+    "next_builds": [
+        "must_run(project, log, target, changed)", "may_run(project, log, target, changed)",
+        "least_reruns(project, log, changed)", "least_rerun_graph(project, log, changed)",
+        "certain_blocked(project, log, target)", "fits_next(project, log, build)",
+        "fitting_statuses(project, log, build, target)",
+    ],
+    "counting": [
+        "count_explanations(project, log)", "count_with(project, log, target, name)",
+        "nth_explanation(project, log, number)", "explanation_number(project, log, graph)",
+    ],
 }
 CLASSES = {
     "errors": [

@@ -171,7 +171,7 @@ def mixed_logs():
              for build in all_builds(project)]
     found += [(ONE, [x, y]) for x, y in product(all_builds(ONE), repeat=2)]
     for seed, project in enumerate(PROJECTS):
-        found += [(project, log) for log in some_logs(project, seed, 120, 5)]
+        found += [(project, log) for log in some_logs(project, seed, 250, 5)]
     return found
 
 

@@ -1,6 +1,7 @@
 """Checks of arguments. Each one raises the error for its argument, or does nothing."""
 
 from whyreran.errors import (
+    InvalidBuild,
     InvalidGraph,
     InvalidLog,
     InvalidName,
@@ -11,6 +12,7 @@ from whyreran.errors import (
     InvalidTarget,
 )
 from whyreran.forms import (
+    has_build_form,
     has_dependencies_form,
     has_graph_form,
     has_log_form,
@@ -39,6 +41,12 @@ def check_dependencies(project, dependencies):
     """Raise InvalidGraph unless the value is like a graph, but perhaps with cycles."""
     if not has_dependencies_form(project, dependencies):
         raise InvalidGraph("these are not the dependencies of every target")
+
+
+def check_build(project, build):
+    """Raise InvalidBuild unless the value is a build of the project."""
+    if not has_build_form(project, build):
+        raise InvalidBuild("this is not a build of the project")
 
 
 def check_log(project, log):

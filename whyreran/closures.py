@@ -50,6 +50,30 @@ def graph_in_order(evidence, order):
     return {target: graph[target] for target in evidence.targets}
 
 
+def graph_that_avoids(evidence, names):
+    """Return an explaining graph with no name above the targets of the closure without the names."""
+    free = closure(evidence, names)
+    order, _ = spread(evidence, free, [])
+    graph = graph_in_order(evidence, order)
+    for target in free:
+        graph[target] = [name for name in graph[target] if name not in names]
+    return graph
+
+
+def possible_names(evidence, target):
+    """Return the names on which the target depends in some explaining graph."""
+    free = closure(evidence, [target])
+    return [
+        name for name in evidence.helps[target] if name in evidence.sources or name in free
+    ]
+
+
+def certain_targets_below(evidence, name):
+    """Return the targets that are below the name in every explaining graph."""
+    free = closure(evidence, [name])
+    return [target for target in evidence.targets if target != name and target not in free]
+
+
 def stuck_groups(evidence, names):
     """Return the targets outside the closure and the names, each with the first build to blame."""
     left = spread(evidence, [], names)[1]
