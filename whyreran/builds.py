@@ -10,53 +10,53 @@ from whyreran.checks import (
     check_selection,
     check_target,
 )
+from whyreran.columns import Columns, first_index
 from whyreran.errors import InvalidGraph
-from whyreran.forms import BROKEN, RESULTS
-from whyreran.graphs import processing_order
+from whyreran.forms import BROKEN
 
-RUNS = "runs"
+# What the two places of a build in a column of words mean: none of them, the first, the second.
+RULE_WORDS = ("idle", "runs", "blocked")
 
 
 def run_build(project, graph, pending, changed, results):
     """Return the status of every target in one build."""
     check_project(project)
-    check_graph(project, graph)
+    links = check_graph(project, graph)
     sources, targets = project
     check_selection(pending, targets)
     check_selection(changed, sources)
     check_results(project, results)
-    return _statuses(processing_order(project, graph), graph, pending, changed, results)
+    return _statuses(links, pending, changed, results)
 
 
-def _statuses(order, graph, pending, changed, results):
+def _statuses(links, pending, changed, results):
     found = {}
-    for target in order:
-        word = rule_word(graph[target], target in pending, changed, found)
-        found[target] = results[target] if word == RUNS else word
-    return {target: found[target] for target in sorted(found)}
-
-
-def rule_word(dependencies, is_pending, changed, statuses):
-    """Return what the rule gives a target: "blocked", "runs" or "idle"."""
-    # A source has no status, so it can only count as changed.
-    reached = [statuses.get(name) for name in dependencies]
-    if any([status in BROKEN for status in reached]):
-        return "blocked"
-    if is_pending or "new" in reached or any([name in changed for name in dependencies]):
-        return RUNS
-    return "idle"
+    changed_bits = sum([links.bits[name] for name in changed])
+    broken_bits = 0
+    for target in links.order:
+        mask = links.masks[target]
+        if mask & broken_bits:
+            found[target] = "blocked"
+        elif mask & changed_bits or target in pending:
+            found[target] = results[target]
+        else:
+            found[target] = "idle"
+        if found[target] == "new":
+            changed_bits += links.bits[target]
+        elif found[target] in BROKEN:
+            broken_bits += links.bits[target]
+    return {target: found[target] for target in links.targets}
 
 
 def run_builds(project, graph, plans):
     """Return the log of builds that follow one another."""
     check_project(project)
-    check_graph(project, graph)
+    links = check_graph(project, graph)
     check_plans(project, plans)
-    order = processing_order(project, graph)
     log = []
     for changed, results in plans:
         pending = pending_at(log, len(log))
-        log.append((sorted(changed), _statuses(order, graph, pending, changed, results)))
+        log.append((sorted(changed), _statuses(links, pending, changed, results)))
     return log
 
 
@@ -90,19 +90,26 @@ def first_mismatch(project, graph, log):
 
 
 def _find_mismatch(project, graph, log):
-    for index in range(len(log)):
-        changed, statuses = log[index]
-        pending = pending_at(log, index)
-        for target in project[1]:
-            word = rule_word(graph[target], target in pending, changed, statuses)
-            if word != _logged_word(statuses[target]):
-                return (index, target, word)
-    return None
+    columns = Columns(project, log)
+    found = []
+    for target in project[1]:
+        given = _ruled_column(columns, graph[target], target)
+        wrong = given ^ columns.words[target]
+        if wrong:
+            index = first_index(wrong)
+            found.append((index, target, RULE_WORDS[given >> 2 * index & 3]))
+    return min(found, default=None)
 
 
-def _logged_word(status):
-    # The rule does not determine the result of a run, so all results agree with it alike.
-    return RUNS if status in RESULTS else status
+def _ruled_column(columns, dependencies, target):
+    """Return what the rule gives a target in all builds, in the form of a column of words."""
+    seconds = columns.firsts << 1
+    reached = 0
+    for name in dependencies:
+        reached |= columns.signals[name]
+    blocked = reached & seconds
+    runs = (reached | columns.pending[target]) & columns.firsts & ~(blocked >> 1)
+    return blocked | runs
 
 
 def cause_of(project, graph, log, index, target):

@@ -1,4 +1,4 @@
-"""Checks of arguments. Each one raises the error for its argument, or does nothing."""
+"""Checks of arguments. Each one raises the error for its argument, or finds nothing wrong."""
 
 from whyreran.errors import (
     InvalidBuild,
@@ -12,9 +12,9 @@ from whyreran.errors import (
     InvalidTarget,
 )
 from whyreran.forms import (
+    dependency_links,
+    graph_links,
     has_build_form,
-    has_dependencies_form,
-    has_graph_form,
     has_log_form,
     has_plans_form,
     has_project_form,
@@ -32,15 +32,19 @@ def check_project(project):
 
 
 def check_graph(project, graph):
-    """Raise InvalidGraph unless the value is a graph of the project."""
-    if not has_graph_form(project, graph):
+    """Return the links of a graph. Raise InvalidGraph unless the value is a graph of the project."""
+    links = graph_links(project, graph)
+    if links is None:
         raise InvalidGraph("this is not a graph of the project")
+    return links
 
 
 def check_dependencies(project, dependencies):
-    """Raise InvalidGraph unless the value is like a graph, but perhaps with cycles."""
-    if not has_dependencies_form(project, dependencies):
+    """Return the links. Raise InvalidGraph unless the value is like a graph, perhaps with cycles."""
+    links = dependency_links(project, dependencies)
+    if links is None:
         raise InvalidGraph("these are not the dependencies of every target")
+    return links
 
 
 def check_build(project, build):

@@ -2,13 +2,12 @@
 
 from whyreran.checks import check_dependencies, check_graph, check_name, check_project
 from whyreran.forms import (
+    graph_links,
     has_build_form,
-    has_graph_form,
     has_log_form,
     has_name_form,
     has_project_form,
 )
-from whyreran.graphs import above_in, below_in, find_cycle, processing_order
 
 
 def is_name(value):
@@ -24,7 +23,7 @@ def is_project(value):
 def is_graph(project, value):
     """Tell whether a value is a graph of the project."""
     check_project(project)
-    return has_graph_form(project, value)
+    return graph_links(project, value) is not None
 
 
 def is_build(project, value):
@@ -49,28 +48,26 @@ def names_of(project):
 def names_above(project, graph, name):
     """Return the names from which a path leads to the name."""
     check_project(project)
-    check_graph(project, graph)
+    links = check_graph(project, graph)
     check_name(project, name)
-    return above_in(graph, name)
+    return links.above(name)
 
 
 def targets_below(project, graph, name):
     """Return the targets to which a path leads from the name."""
     check_project(project)
-    check_graph(project, graph)
+    links = check_graph(project, graph)
     check_name(project, name)
-    return below_in(project, graph, name)
+    return links.below(name)
 
 
 def cycle_in(project, dependencies):
     """Return targets of which each is a dependency of the next, in a circle, or None."""
     check_project(project)
-    check_dependencies(project, dependencies)
-    return find_cycle(project, dependencies)
+    return check_dependencies(project, dependencies).cycle()
 
 
 def target_order(project, graph):
     """Return all targets, each one behind its dependencies, as early as its name allows."""
     check_project(project)
-    check_graph(project, graph)
-    return processing_order(project, graph)
+    return check_graph(project, graph).order
