@@ -157,6 +157,14 @@ class EveryPart(unittest.TestCase):
                         names_of(value)
         self.assertEqual(seen, {True, False})
 
+    def test_the_names_of_a_project(self):
+        names = ["a" * 12, "a" * 13, "9a", "_a", ".a", "a9", "a_", "a.", "aA", "A", "a-", "", "a\n"]
+        for name in names:
+            for value in ([], [name]), ([name], []), (["b", name], ["c"]), ([], ["B", name]):
+                self.assertIs(is_project(value), project_by_parts(value), repr(value))
+            self.assertIs(is_project(([name], ["zz"])), name_by_parts(name), repr(name))
+            self.assertIs(is_name(name), name_by_parts(name), repr(name))
+
     def test_names(self):
         for part in SOME + ["a" * 12, "a.b", "a_", "A", "a-b", "\u00e4", "a\u00e4", "a" * 11 + "."]:
             self.assertIs(is_name(part), name_by_parts(part), repr(part))

@@ -1,7 +1,7 @@
 """The forms of names, projects, graphs, builds and logs. A form can be asked of any value.
 
-Where a project is an argument, the callers have checked it. Logs and graphs are checked as a whole
-rather than part by part, as one look at all strings of a log is much faster than one at each.
+Where a project is an argument, the callers have checked it. The strings of a log are checked as a
+whole rather than build by build, as one look at all of them is much faster.
 """
 
 from whyreran.graphs import Links, ascending_bits, mask_of
