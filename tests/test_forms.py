@@ -165,6 +165,14 @@ class EveryPart(unittest.TestCase):
             self.assertIs(is_project(([name], ["zz"])), name_by_parts(name), repr(name))
             self.assertIs(is_name(name), name_by_parts(name), repr(name))
 
+    def test_a_project_without_any_name(self):
+        self.assertIs(is_project(([], [])), True)
+        self.assertEqual(names_of(([], [])), [])
+        self.assertIs(is_graph(([], []), {}), True)
+        for value in SOME:
+            for spoiled in ([value], []), ([], [value]):
+                self.assertIs(is_project(spoiled), project_by_parts(spoiled), repr(value))
+
     def test_names(self):
         for part in SOME + ["a" * 12, "a.b", "a_", "A", "a-b", "\u00e4", "a\u00e4", "a" * 11 + "."]:
             self.assertIs(is_name(part), name_by_parts(part), repr(part))

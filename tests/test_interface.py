@@ -67,6 +67,10 @@ def files():
     return sorted(name for name in os.listdir(FOLDER) if name != "__pycache__")
 
 
+def is_map(node):
+    return isinstance(node, ast.Call) and isinstance(node.func, ast.Name) and node.func.id == "map"
+
+
 class TheInterface(unittest.TestCase):
     def test_the_functions_are_defined_in_their_files(self):
         for module, expected in FUNCTIONS.items():
@@ -111,6 +115,12 @@ class TheFiles(unittest.TestCase):
                 self.assertNotIsInstance(node, ast.Import)
                 if isinstance(node, ast.ImportFrom):
                     self.assertEqual(node.module.split(".")[0], "whyreran", name)
+
+    def test_a_map_stands_alone_in_a_call(self):
+        for name in files():
+            for node in ast.walk(ast.parse(read(name))):
+                if isinstance(node, ast.Call) and any(is_map(part) for part in node.args):
+                    self.assertEqual((len(node.args), node.keywords), (1, []), (name, node.lineno))
 
 
 if __name__ == "__main__":

@@ -42,11 +42,16 @@ def has_project_form(value):
 
 def _are_names(values):
     """Tell whether all values are names, by the signs of all of them together."""
-    if not _are_strings(values) or "" in values or max(map(len, values), default=0) > LONGEST_NAME:
+    if not _are_strings(values) or "" in values or _longest(values) > LONGEST_NAME:
         return False
     firsts = "".join([value[0] for value in values])
     # Without certain signs at its ends, a text is empty if it has no other signs at all.
     return not firsts.strip(LETTERS) and not "".join(values).strip(NAME_SIGNS)
+
+
+def _longest(values):
+    """Return the greatest number of signs of one of the strings, and 0 if there are none."""
+    return max(map(len, values)) if values else 0
 
 
 def _are_strings(values):
