@@ -16,6 +16,7 @@ from whyreran.builds import (
     run_build,
     run_builds,
 )
+from whyreran.conflicts import conflict_core, culprits, first_conflict, is_core
 from whyreran.counting import (
     count_explanations,
     count_with,
@@ -28,6 +29,16 @@ from whyreran.deciding import (
     graph_without,
     possible_dependencies,
     standing_of,
+)
+from whyreran.equivalence import (
+    count_same,
+    greatest_form,
+    have_same_logs,
+    is_superfluous,
+    least_form,
+    live_targets,
+    separating_build,
+    uncovered_path,
 )
 from whyreran.errors import (
     InvalidBuild,
@@ -62,6 +73,7 @@ from whyreran.projects import (
     target_order,
     targets_below,
 )
+from whyreran.settling import is_settled, settling_log, unsettled_pair
 
 R = {"a": "new", "b": "same", "c": "failed"}
 
@@ -69,6 +81,7 @@ PROJECT = (0, InvalidProject)
 GRAPH = (1, InvalidGraph)
 LOG = (1, InvalidLog)
 TARGET = (2, InvalidTarget)
+OTHER = {"a": ["s"], "b": ["a"], "c": ["b", "u"]}
 
 # Each row: the function, right arguments, and where an error can arise, in the order of checking.
 CALLS = [
@@ -121,6 +134,21 @@ CALLS = [
     (count_with, (P, L, "b", "s"), [PROJECT, LOG, TARGET, (3, InvalidName)]),
     (nth_explanation, (P, L, 1), [PROJECT, LOG, (2, InvalidNumber)]),
     (explanation_number, (P, L, G), [PROJECT, LOG, (2, InvalidGraph)]),
+    (live_targets, (P, G), [PROJECT, GRAPH]),
+    (greatest_form, (P, G), [PROJECT, GRAPH]),
+    (least_form, (P, G), [PROJECT, GRAPH]),
+    (have_same_logs, (P, G, OTHER), [PROJECT, GRAPH, (2, InvalidGraph)]),
+    (is_superfluous, (P, G, "b", "a"), [PROJECT, GRAPH, TARGET, (3, InvalidName)]),
+    (uncovered_path, (P, G, "c", "a"), [PROJECT, GRAPH, TARGET, (3, InvalidName)]),
+    (separating_build, (P, G, OTHER), [PROJECT, GRAPH, (2, InvalidGraph)]),
+    (count_same, (P, G), [PROJECT, GRAPH]),
+    (is_settled, (P, L), [PROJECT, LOG]),
+    (unsettled_pair, (P, L), [PROJECT, LOG]),
+    (settling_log, (P, G), [PROJECT, GRAPH]),
+    (first_conflict, (P, L), [PROJECT, LOG]),
+    (conflict_core, (P, L), [PROJECT, LOG]),
+    (is_core, (P, L, [0]), [PROJECT, LOG]),
+    (culprits, (P, L), [PROJECT, LOG]),
 ]
 
 # The functions that raise NotExplained.
@@ -128,7 +156,7 @@ EXPLAINING = [
     explanation, lean_explanation, standing_of, certain_dependencies, possible_dependencies,
     graph_with, graph_without, certain_above, certain_below, avoiding_graph, stuck_choices,
     must_run, may_run, least_reruns, least_rerun_graph, certain_blocked, fits_next,
-    fitting_statuses,
+    fitting_statuses, is_settled, unsettled_pair,
 ]
 
 # The functions that raise other errors for a log that no graph explains.

@@ -20,6 +20,7 @@ from whyreran.builds import (
     run_build,
     run_builds,
 )
+from whyreran.conflicts import conflict_core, culprits, first_conflict, is_core
 from whyreran.counting import (
     count_explanations,
     count_with,
@@ -32,6 +33,16 @@ from whyreran.deciding import (
     graph_without,
     possible_dependencies,
     standing_of,
+)
+from whyreran.equivalence import (
+    count_same,
+    greatest_form,
+    have_same_logs,
+    is_superfluous,
+    least_form,
+    live_targets,
+    separating_build,
+    uncovered_path,
 )
 from whyreran.explaining import explanation, find_obstruction, is_explained, lean_explanation
 from whyreran.facts import closure_without, exclusion, needs_of, permitted_names
@@ -57,6 +68,7 @@ from whyreran.projects import (
     target_order,
     targets_below,
 )
+from whyreran.settling import is_settled, settling_log, unsettled_pair
 
 R = {"a": "new", "b": "failed", "c": "same"}
 PLAN = (["u", "s"], R)
@@ -65,6 +77,8 @@ NO_GRAPH = [(["s"], {"a": "new", "b": "new", "c": "new"}),
             (["s"], {"a": "idle", "b": "same", "c": "idle"})]
 LAPSE = [(["s"], {"a": "new", "b": "new", "c": "failed"}),
          ([], {"a": "idle", "b": "same", "c": "idle"})]
+FULL = {"a": ["s", "u"], "b": ["a", "s"], "c": ["a", "b", "s"]}
+DEAD = {"a": ["s"], "b": [], "c": ["a", "b"]}
 CALLS = [(function, args) for function, args, _ in RIGHT_CALLS] + [
     (is_name, ("a",)), (is_project, (P,)), (is_graph, (P, CIRCLE)), (cycle_in, (P, CIRCLE)),
     (run_build, (P, G, ["c", "a"], ["u", "s"], R)), (run_builds, (P, G, [PLAN, PLAN, ([], R)])),
@@ -81,6 +95,17 @@ CALLS = [(function, args) for function, args, _ in RIGHT_CALLS] + [
     (least_reruns, (P, L[:1], [])), (least_rerun_graph, (P, L[:1], [])), (must_run, (P, L, "a", [])),
     (fits_next, (P, L[:1], L[1])), (fitting_statuses, (P, [], L[0], "c")), (nth_explanation, (P, [], 77)),
     (explanation_number, (P, [], G)), (count_explanations, (P, NO_GRAPH)),
+    (greatest_form, (P, FULL)), (least_form, (P, FULL)), (count_same, (P, FULL)),
+    (have_same_logs, (P, G, FULL)), (separating_build, (P, G, G)), (separating_build, (P, G, FULL)),
+    (separating_build, (P, FULL, G)), (separating_build, (P, G, DEAD)), (live_targets, (P, DEAD)),
+    (greatest_form, (P, DEAD)), (least_form, (P, DEAD)), (is_superfluous, (P, DEAD, "c", "b")),
+    (uncovered_path, (P, FULL, "a", "b")), (uncovered_path, (P, DEAD, "c", "b")),
+    (settling_log, (P, FULL)), (settling_log, (P, DEAD)), (unsettled_pair, (P, [])),
+    (unsettled_pair, (P, settling_log(P, G))), (is_settled, (P, settling_log(P, G))),
+    (unsettled_pair, (P, settling_log(P, G)[:2])),
+    (unsettled_pair, (P, [(["s", "u"], {"a": "new", "b": "idle", "c": "idle"})])),
+    (first_conflict, (P, NO_GRAPH)), (conflict_core, (P, NO_GRAPH)), (culprits, (P, NO_GRAPH)),
+    (is_core, (P, NO_GRAPH, [0])), (is_core, (P, NO_GRAPH, [0, 1])), (conflict_core, (P, LAPSE)),
 ]
 
 
@@ -198,6 +223,23 @@ class Arguments(unittest.TestCase):
         self.assertIn("new", fitting_statuses(**first, build=L[2], target="b"))
         graph = nth_explanation(**first, number=0)
         self.assertEqual(explanation_number(**first, graph=graph), 0)
+
+    def test_arguments_of_graphs_with_the_same_logs_may_be_given_by_their_names(self):
+        first = {"project": P, "graph": G}
+        self.assertEqual(live_targets(**first), ["a", "b", "c"])
+        self.assertEqual(greatest_form(**first), least_form(**first))
+        self.assertFalse(have_same_logs(**first, other=FULL))
+        self.assertFalse(is_superfluous(**first, target="b", name="a"))
+        self.assertEqual(uncovered_path(**first, target="c", name="a"), ["s", "a"])
+        self.assertEqual(separating_build(**first, other=G), None)
+        self.assertEqual(count_same(**first), 1)
+        log = settling_log(**first)
+        self.assertTrue(is_settled(project=P, log=log))
+        self.assertIsNone(unsettled_pair(project=P, log=log))
+        self.assertIsNone(first_conflict(project=P, log=log))
+        self.assertIsNone(conflict_core(project=P, log=log))
+        self.assertFalse(is_core(project=P, log=log, value=[0]))
+        self.assertEqual(culprits(project=P, log=[]), [])
 
 
 class Results(unittest.TestCase):

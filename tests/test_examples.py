@@ -1,7 +1,11 @@
 """The examples of the document, word for word, by the number of their point."""
 
+import contextlib
 import doctest
+import io
 import unittest
+
+from whyreran.errors import RerunError
 
 EXAMPLES = {
     13: """
@@ -267,21 +271,133 @@ False
 >>> explanation_number((['s'], ['a', 'b']), log, {'a': ['s'], 'b': ['a', 's']})
 2
 """,
+    49: """
+>>> from whyreran.equivalence import live_targets
+>>> live_targets((["s"], ["a", "b", "c"]), {"a": ["s"], "b": [], "c": ["b"]})
+['a']
+""",
+    50: """
+>>> from whyreran.equivalence import greatest_form, least_form
+>>> R = (["s"], ["t", "x", "y"])
+>>> G = {"t": ["s", "y"], "x": ["s"], "y": ["x"]}
+>>> [greatest_form(R, G), least_form(R, G)]
+[{'t': ['s', 'x', 'y'], 'x': ['s'], 'y': ['x']}, {'t': ['s', 'y'], 'x': ['s'], 'y': ['x']}]
+""",
+    51: """
+>>> from whyreran.equivalence import have_same_logs
+>>> R = (["s"], ["t", "x", "y"])
+>>> G = {"t": ["s", "y"], "x": ["s"], "y": ["x"]}
+>>> [have_same_logs(R, G, {"t": names, "x": ["s"], "y": ["x"]}) for names in [["s", "x", "y"], ["y"], ["s"]]]
+[True, False, False]
+""",
+    52: """
+>>> from whyreran.equivalence import is_superfluous
+>>> R = (["s"], ["t", "x", "y"])
+>>> G = {"t": ["s", "x", "y"], "x": ["s"], "y": ["x"]}
+>>> [is_superfluous(R, G, "t", name) for name in ["s", "x", "y"]]
+[False, True, False]
+
+>>> from whyreran.equivalence import uncovered_path
+>>> R = (["s"], ["t", "x", "y"])
+>>> G = {"t": ["s", "x", "y"], "x": ["s"], "y": ["x"]}
+>>> [uncovered_path(R, G, "t", "x"), uncovered_path(R, G, "y", "x")]
+[None, ['s', 'x']]
+""",
+    53: """
+>>> from whyreran.builds import explains
+>>> from whyreran.equivalence import separating_build
+>>> R = (["s"], ["a"])
+>>> build, holder = separating_build(R, {"a": ["s"]}, {"a": []})
+>>> [explains(R, {"a": ["s"]}, [build]) == (holder == 1), explains(R, {"a": []}, [build]) == (holder == 2)]
+[True, True]
+""",
+    54: """
+>>> from whyreran.equivalence import count_same
+>>> count_same((["s"], ["t", "x", "y"]), {"t": ["s", "y"], "x": ["s"], "y": ["x"]})
+2
+""",
+    55: """
+>>> from whyreran.settling import is_settled
+>>> P = (["s", "u"], ["a", "b", "c"])
+>>> L = [(["s"], {"a": "failed", "b": "blocked", "c": "new"}), ([], {"a": "same", "b": "new", "c": "idle"})]
+>>> [is_settled(P, L), is_settled((["s"], ["a"]), [(["s"], {"a": "new"})])]
+[False, True]
+""",
+    56: """
+>>> from whyreran.builds import explains
+>>> from whyreran.settling import unsettled_pair
+>>> R = (["s", "u"], ["a"])
+>>> M = [(["s", "u"], {"a": "new"})]
+>>> graph, other, build = unsettled_pair(R, M)
+>>> [explains(R, graph, M), explains(R, other, M), explains(R, graph, [build]), explains(R, other, [build])]
+[True, True, True, False]
+""",
+    57: """
+>>> from whyreran.builds import explains
+>>> from whyreran.settling import is_settled, settling_log
+>>> R = (["s"], ["t", "x", "y"])
+>>> G = {"t": ["s", "y"], "x": ["s"], "y": ["x"]}
+>>> M = settling_log(R, G)
+>>> [explains(R, G, M), is_settled(R, M), explains(R, {"t": ["s", "x", "y"], "x": ["s"], "y": ["x"]}, M)]
+[True, True, True]
+""",
+    58: """
+>>> from whyreran.conflicts import first_conflict
+>>> p = (["s"], ["a", "b"])
+>>> n = {"a": "new", "b": "new"}
+>>> i = {"a": "idle", "b": "idle"}
+>>> [first_conflict(p, [(["s"], n), ([], i), (["s"], i)]), first_conflict(p, [([], n)]), first_conflict(p, [])]
+[3, 1, None]
+""",
+    59: """
+>>> from whyreran.conflicts import conflict_core
+>>> p = (["s"], ["a", "b"])
+>>> n = {"a": "new", "b": "new"}
+>>> i = {"a": "idle", "b": "idle"}
+>>> conflict_core(p, [(["s"], n), ([], i), (["s"], i)])
+[0, 2]
+""",
+    60: """
+>>> from whyreran.conflicts import is_core
+>>> p = (["s"], ["a", "b"])
+>>> n = {"a": "new", "b": "new"}
+>>> i = {"a": "idle", "b": "idle"}
+>>> z = [(["s"], n), ([], i), (["s"], i)]
+>>> [is_core(p, z, [0, 2]), is_core(p, z, [0, 1, 2]), is_core(p, z, [2])]
+[True, False, False]
+""",
+    61: """
+>>> from whyreran.conflicts import culprits
+>>> p = (["s"], ["a", "b"])
+>>> n = {"a": "new", "b": "new"}
+>>> i = {"a": "idle", "b": "idle"}
+>>> [culprits(p, [(["s"], n), ([], i), (["s"], i)]), culprits(p, [(["s"], n), (["s"], i), (["s"], n)])]
+[[0, 2], [1]]
+""",
 }
+
+
+def outcome(source, names):
+    """Run one statement, and return what an interpreter prints, in the way of the document."""
+    told = io.StringIO()
+    try:
+        with contextlib.redirect_stdout(told):
+            exec(compile(source, "<example>", "single"), names)
+    except RerunError as error:
+        fields = ", ".join("%s=%r" % pair for pair in vars(error).items())
+        return "raises %s(%s)\n" % (error.__class__.__name__, fields)
+    return told.getvalue()
 
 
 class ExamplesOfTheDocument(unittest.TestCase):
     def test_every_example_gives_what_the_document_prints(self):
         for point in EXAMPLES:
-            with self.subTest(point=point):
-                test = doctest.DocTestParser().get_doctest(
-                    EXAMPLES[point], {}, "point %d" % point, None, 0
-                )
-                told = []
-                runner = doctest.DocTestRunner(verbose=False)
-                runner.run(test, out=told.append)
-                self.assertGreater(runner.tries, 0)
-                self.assertEqual(runner.failures, 0, "".join(told))
+            names = {}
+            examples = doctest.DocTestParser().get_examples(EXAMPLES[point])
+            self.assertGreater(len(examples), 1)
+            for example in examples:
+                with self.subTest(point=point, source=example.source):
+                    self.assertEqual(outcome(example.source, names), example.want)
 
 
 if __name__ == "__main__":

@@ -48,6 +48,20 @@ FUNCTIONS = {
         "count_explanations(project, log)", "count_with(project, log, target, name)",
         "nth_explanation(project, log, number)", "explanation_number(project, log, graph)",
     ],
+    "equivalence": [
+        "live_targets(project, graph)", "greatest_form(project, graph)",
+        "least_form(project, graph)", "have_same_logs(project, graph, other)",
+        "is_superfluous(project, graph, target, name)",
+        "uncovered_path(project, graph, target, name)",
+        "separating_build(project, graph, other)", "count_same(project, graph)",
+    ],
+    "settling": [
+        "is_settled(project, log)", "unsettled_pair(project, log)", "settling_log(project, graph)",
+    ],
+    "conflicts": [
+        "first_conflict(project, log)", "conflict_core(project, log)",
+        "is_core(project, log, value)", "culprits(project, log)",
+    ],
 }
 CLASSES = {
     "errors": [

@@ -50,14 +50,64 @@ def pending_before(log, index):
     return sorted(target for target in statuses if statuses[target] in BROKEN)
 
 
-def explaining_graphs(project, log):
-    """Return all graphs that explain a log, tried one by one with the rule of point 9."""
+def fitting_graphs(project, log, indexes):
+    """Return the numbers of all graphs that fit some builds of a log, as points 9 and 58 say."""
     key = (tuple(project[0]), tuple(project[1]))
     numbers = set(range(len(_graphs(key))))
-    for index, (changed, statuses) in enumerate(log):
+    for index in indexes:
+        changed, statuses = log[index]
         row = tuple(statuses[target] for target in project[1])
         numbers &= _fitting(key, tuple(pending_before(log, index)), tuple(changed), row)
-    return [_graphs(key)[number] for number in sorted(numbers)]
+    return sorted(numbers)
+
+
+def explaining_graphs(project, log):
+    """Return all graphs that explain a log, tried one by one with the rule of point 9."""
+    numbers = fitting_graphs(project, log, range(len(log)))
+    return [graphs_of(project)[number] for number in numbers]
+
+
+@lru_cache(maxsize=None)
+def _builds_of_graphs(key):
+    project = (list(key[0]), list(key[1]))
+    found = [set() for _ in _graphs(key)]
+    for at, build in enumerate(all_builds(project)):
+        for number in fitting_graphs(project, [build], [0]):
+            found[number].add(at)
+    return {repr(graph): frozenset(some) for graph, some in zip(_graphs(key), found)}
+
+
+def builds_of_graph(project, graph):
+    """Return the set of the places in all_builds of the logs of one build that a graph explains."""
+    rows = _builds_of_graphs((tuple(project[0]), tuple(project[1])))
+    return rows[repr({target: graph[target] for target in project[1]})]
+
+
+def live_by_paths(project, graph):
+    """Return the set of the live names of a graph, as point 12 says."""
+    live = {x for x in project[1] if above_by_paths(graph, x) & set(project[0])}
+    return live | set(project[0])
+
+
+def chain_world(sources, targets):
+    """Return a project of this size and its graph in which each target depends on the one before."""
+    project = numbered_project(sources, targets)
+    graph = {target: project[1][at - 1:at] if at else list(project[0])
+             for at, target in enumerate(project[1])}
+    return project, graph
+
+
+def dense_world(sources, targets):
+    """Return a project of this size and its graph in which each target depends on all before it."""
+    project = numbered_project(sources, targets)
+    return project, {t: project[0] + project[1][:at] for at, t in enumerate(project[1])}
+
+
+def numbered_project(sources, targets):
+    return (
+        ["s%02d" % number for number in range(sources)],
+        ["t%02d" % number for number in range(targets)],
+    )
 
 
 def changed_names(build):
@@ -178,10 +228,7 @@ def mixed_logs():
 def big_world(seed, sources, targets, count):
     """Return a project of this size, one of its graphs, and a log of the graph."""
     rng = random.Random(seed)
-    project = (
-        ["s%02d" % number for number in range(sources)],
-        ["t%02d" % number for number in range(targets)],
-    )
+    project = numbered_project(sources, targets)
     order = list(project[1])
     rng.shuffle(order)
     graph = {}

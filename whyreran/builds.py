@@ -26,10 +26,11 @@ def run_build(project, graph, pending, changed, results):
     check_selection(pending, targets)
     check_selection(changed, sources)
     check_results(project, results)
-    return _statuses(links, pending, changed, results)
+    return ruled_statuses(links, pending, changed, results)
 
 
-def _statuses(links, pending, changed, results):
+def ruled_statuses(links, pending, changed, results):
+    """Return what run_build returns. The caller has checked the arguments."""
     found = {}
     changed_bits = sum([links.bits[name] for name in changed])
     broken_bits = 0
@@ -56,7 +57,7 @@ def run_builds(project, graph, plans):
     log = []
     for changed, results in plans:
         pending = pending_at(log, len(log))
-        log.append((sorted(changed), _statuses(links, pending, changed, results)))
+        log.append((sorted(changed), ruled_statuses(links, pending, changed, results)))
     return log
 
 

@@ -60,6 +60,13 @@ def graph_that_avoids(evidence, names):
     return graph
 
 
+def graph_with_all_possible(evidence, target):
+    """Return a graph that explains the log, and in which the target has all its possible names."""
+    # All targets that can do without this one come before it, so it may depend on all of them.
+    order, _ = spread(evidence, [*closure(evidence, [target]), target], [])
+    return graph_in_order(evidence, order)
+
+
 def possible_names(evidence, target):
     """Return the names on which the target depends in some explaining graph."""
     free = closure(evidence, [target])

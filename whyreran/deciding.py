@@ -1,7 +1,7 @@
 """Single dependencies: which ones are certain, possible or impossible, with graphs that show it."""
 
 from whyreran.checks import check_other_name, check_target
-from whyreran.closures import check_explained, closure, graph_in_order, possible_names, spread
+from whyreran.closures import check_explained, graph_with_all_possible, possible_names
 from whyreran.evidence import read_evidence
 
 
@@ -49,20 +49,13 @@ def _evidence_of_target(project, log, target):
 def graph_with(project, log, target, name):
     """Return a graph that explains the log and has this dependency, or None."""
     evidence = _evidence_of_pair(project, log, target, name)
-    graph = _graph_with_all_possible(evidence, target)
+    graph = graph_with_all_possible(evidence, target)
     return graph if name in graph[target] else None
 
 
 def graph_without(project, log, target, name):
     """Return a graph that explains the log and does not have this dependency, or None."""
     evidence = _evidence_of_pair(project, log, target, name)
-    graph = _graph_with_all_possible(evidence, target)
+    graph = graph_with_all_possible(evidence, target)
     graph[target] = [other for other in graph[target] if other != name]
     return None if evidence.lack(target, graph[target]) else graph
-
-
-def _graph_with_all_possible(evidence, target):
-    """Return a graph that explains the log, and in which the target has all its possible names."""
-    # All targets that can do without this one come before it, so it may depend on all of them.
-    order, _ = spread(evidence, [*closure(evidence, [target]), target], [])
-    return graph_in_order(evidence, order)
