@@ -74,6 +74,14 @@ from whyreran.projects import (
     targets_below,
 )
 from whyreran.settling import is_settled, settling_log, unsettled_pair
+from whyreran.texts import (
+    format_build,
+    format_graph,
+    format_log,
+    parse_build,
+    parse_graph,
+    parse_log,
+)
 
 R = {"a": "new", "b": "same", "c": "failed"}
 
@@ -149,6 +157,12 @@ CALLS = [
     (conflict_core, (P, L), [PROJECT, LOG]),
     (is_core, (P, L, [0]), [PROJECT, LOG]),
     (culprits, (P, L), [PROJECT, LOG]),
+    (format_graph, (P, G), [PROJECT, GRAPH]),
+    (format_build, (P, L[0]), [PROJECT, (1, InvalidBuild)]),
+    (format_log, (P, L), [PROJECT, LOG]),
+    (parse_graph, (P, format_graph(P, G)), [PROJECT]),
+    (parse_build, (P, format_build(P, L[2])), [PROJECT]),
+    (parse_log, (P, format_log(P, L)), [PROJECT]),
 ]
 
 # The functions that raise NotExplained.

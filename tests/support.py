@@ -2,6 +2,8 @@
 
 from itertools import combinations, product
 
+from whyreran.errors import RerunError
+
 STATUSES = ["new", "same", "failed", "blocked", "idle"]
 RESULTS = ["new", "same", "failed"]
 
@@ -109,3 +111,44 @@ def word_by_the_rule(graph, pending, build, target):
 def word_of_status(status):
     """Return the word that agrees with a status."""
     return "runs" if status in RESULTS else status
+
+
+def shown(value):
+    """Return a string that tells the order of dicts as well."""
+    return repr(value)
+
+
+def holders(value):
+    """Return all lists and dicts in a value, each as often as it stands there."""
+    found = [value] if isinstance(value, (list, dict)) else []
+    if isinstance(value, (list, tuple)):
+        inner = value
+    else:
+        inner = value.values() if isinstance(value, dict) else []
+    return found + [holder for part in inner for holder in holders(part)]
+
+
+def spoil(value):
+    """Change every list and dict in a value."""
+    for holder in holders(value):
+        if isinstance(holder, list):
+            holder.append("spoiled")
+        else:
+            holder["spoiled"] = ["spoiled"]
+
+
+def turned(value):
+    """Return a copy of a value in which all dicts have the opposite order."""
+    if isinstance(value, dict):
+        return {key: turned(value[key]) for key in reversed(list(value))}
+    if isinstance(value, (list, tuple)):
+        return value.__class__([turned(part) for part in value])
+    return value
+
+
+def result_of(function, *args):
+    """Return what a call returns, or what it raises."""
+    try:
+        return shown(function(*args))
+    except RerunError as error:
+        return (error.__class__, shown(vars(error)))

@@ -4,7 +4,7 @@ import copy
 import unittest
 
 from tests.calls import CALLS as RIGHT_CALLS
-from tests.support import G, L, P, all_results
+from tests.support import G, L, P, all_results, holders, shown, spoil, turned
 from whyreran.avoiding import (
     avoiding_graph,
     certain_above,
@@ -69,6 +69,7 @@ from whyreran.projects import (
     targets_below,
 )
 from whyreran.settling import is_settled, settling_log, unsettled_pair
+from whyreran.texts import format_build, format_graph, format_log, parse_graph, parse_log
 
 R = {"a": "new", "b": "failed", "c": "same"}
 PLAN = (["u", "s"], R)
@@ -106,40 +107,9 @@ CALLS = [(function, args) for function, args, _ in RIGHT_CALLS] + [
     (unsettled_pair, (P, [(["s", "u"], {"a": "new", "b": "idle", "c": "idle"})])),
     (first_conflict, (P, NO_GRAPH)), (conflict_core, (P, NO_GRAPH)), (culprits, (P, NO_GRAPH)),
     (is_core, (P, NO_GRAPH, [0])), (is_core, (P, NO_GRAPH, [0, 1])), (conflict_core, (P, LAPSE)),
+    (format_graph, (P, FULL)), (format_build, (P, LAPSE[1])), (format_log, (P, LAPSE + NO_GRAPH)),
+    (parse_graph, (P, "a:\nb: a u\nc: a b s u")), (parse_log, (P, "")),
 ]
-
-
-def shown(value):
-    """Return a string that tells the order of dicts as well."""
-    return repr(value)
-
-
-def holders(value):
-    """Return all lists and dicts in a value, each as often as it stands there."""
-    found = [value] if isinstance(value, (list, dict)) else []
-    if isinstance(value, (list, tuple)):
-        inner = value
-    else:
-        inner = value.values() if isinstance(value, dict) else []
-    return found + [holder for part in inner for holder in holders(part)]
-
-
-def spoil(value):
-    """Change every list and dict in a value."""
-    for holder in holders(value):
-        if isinstance(holder, list):
-            holder.append("spoiled")
-        else:
-            holder["spoiled"] = ["spoiled"]
-
-
-def turned(value):
-    """Return a copy of a value in which all dicts have the opposite order."""
-    if isinstance(value, dict):
-        return {key: turned(value[key]) for key in reversed(list(value))}
-    if isinstance(value, (list, tuple)):
-        return value.__class__([turned(part) for part in value])
-    return value
 
 
 class Arguments(unittest.TestCase):

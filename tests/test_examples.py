@@ -374,6 +374,99 @@ False
 >>> [culprits(p, [(["s"], n), ([], i), (["s"], i)]), culprits(p, [(["s"], n), (["s"], i), (["s"], n)])]
 [[0, 2], [1]]
 """,
+    62: """
+>>> from whyreran.tools import BuildTool
+>>> tool = BuildTool((["s"], ["a", "b"]), {"a": ["s"], "b": ["a"]})
+>>> one = tool.run(["s"], {"a": "failed", "b": "same"})
+>>> [one, tool.run([], {"a": "same", "b": "same"})]
+[{'a': 'failed', 'b': 'blocked'}, {'a': 'same', 'b': 'same'}]
+""",
+    63: """
+>>> from whyreran.tools import BuildTool
+>>> tool = BuildTool((["s"], ["a", "b"]), {"a": ["s"], "b": ["a"]})
+>>> statuses = tool.run(["s"], {"a": "failed", "b": "same"})
+>>> other = tool.duplicate()
+>>> other.undo()
+>>> [tool.pending_targets(), len(other), tool == other]
+[['a', 'b'], 0, False]
+""",
+    64: """
+>>> from whyreran.recorder import Recorder
+>>> recorder = Recorder((["s"], ["a"]))
+>>> recorder.add_build((["s"], {"a": "new"}))
+>>> recorder.add_build(([], {"a": "new"}))
+>>> recorder.undo()
+>>> recorder.builds()
+[(['s'], {'a': 'new'})]
+""",
+    65: """
+>>> from whyreran.recorder import Recorder
+>>> recorder = Recorder((["s"], ["a"]))
+>>> mark = recorder.set_mark()
+>>> recorder.add_build((["s"], {"a": "new"}))
+>>> recorder.return_to(mark)
+>>> empty = recorder.builds()
+>>> recorder.undo()
+>>> [mark, empty, recorder.builds()]
+[0, [], [(['s'], {'a': 'new'})]]
+""",
+    66: """
+>>> from whyreran.recorder import Recorder
+>>> recorder = Recorder((["s", "u"], ["a"]))
+>>> recorder.add_build((["s"], {"a": "new"}))
+>>> before = [recorder.certain_dependencies("a"), recorder.least_reruns(["u"])]
+>>> recorder.add_build((["s"], {"a": "idle"}))
+>>> before + [recorder.is_explained(), recorder.find_obstruction()]
+[['s'], [], False, ('group', {'a': 0})]
+""",
+    67: """
+>>> from whyreran.recorder import Recorder
+>>> recorder = Recorder((["s"], ["a"]))
+>>> mark = recorder.set_mark()
+>>> other = recorder.duplicate()
+>>> other.add_build(([], {"a": "idle"}))
+>>> other.return_to(mark)
+>>> [recorder == other, len(other)]
+[True, 0]
+""",
+    68: """
+>>> from whyreran.texts import format_graph
+>>> p = (["s", "u"], ["a", "b", "c"])
+>>> format_graph(p, {"a": ["s"], "b": ["a", "u"], "c": []})
+'a: s\\nb: a u\\nc:'
+
+>>> from whyreran.texts import parse_graph
+>>> p = (["s", "u"], ["a", "b", "c"])
+>>> parse_graph(p, 'a: b\\nb: a\\nc:')
+raises InvalidText(position=1)
+""",
+    69: """
+>>> from whyreran.texts import format_build
+>>> p = (["s", "u"], ["a", "b"])
+>>> format_build(p, (["s", "u"], {"a": "failed", "b": "blocked"}))
+'s u | a=failed b=blocked'
+
+>>> from whyreran.texts import parse_build
+>>> parse_build((["s"], ["a"]), '- | a=idle')
+([], {'a': 'idle'})
+""",
+    70: """
+>>> from whyreran.texts import format_log
+>>> p = (["s"], ["a"])
+>>> format_log(p, [(["s"], {"a": "new"}), ([], {"a": "idle"})])
+'s | a=new\\n- | a=idle'
+
+>>> from whyreran.texts import parse_log
+>>> parse_log((["s"], ["a"]), 's | a=new\\n')
+raises InvalidText(position=1)
+""",
+    73: """
+>>> from whyreran.console import Console
+>>> console = Console()
+>>> rows = ["project s u / a b", "build s | a=new b=new", "explained", "why a s", "next u", "graph"]
+>>> [console.execute(row) for row in rows]
+['ok', 'ok', 'yes', 'open', 'none', 'a: s u\\nb: a s u']
+""",
 }
 
 

@@ -62,6 +62,10 @@ FUNCTIONS = {
         "first_conflict(project, log)", "conflict_core(project, log)",
         "is_core(project, log, value)", "culprits(project, log)",
     ],
+    "texts": [
+        "format_graph(project, graph)", "format_build(project, build)", "format_log(project, log)",
+        "parse_graph(project, text)", "parse_build(project, text)", "parse_log(project, text)",
+    ],
 }
 CLASSES = {
     "errors": [
@@ -69,6 +73,23 @@ CLASSES = {
         "InvalidTarget", "InvalidName", "InvalidNames", "InvalidResults", "InvalidNumber",
         "InvalidMark", "InvalidCommand", "NothingToUndo", "NotExplained", "InvalidText", "TooLarge",
     ],
+}
+METHODS = {
+    "tools": {
+        "BuildTool": [
+            "__init__(self, project, graph)", "run(self, changed, results)", "pending_targets(self)",
+            "history(self)", "undo(self)", "duplicate(self)", "__len__(self)", "__eq__(self, other)",
+        ],
+    },
+    "recorder": {
+        "Recorder": [
+            "__init__(self, project)", "add_build(self, build)", "undo(self)", "set_mark(self)",
+            "return_to(self, mark)", "builds(self)", "pending_targets(self)", "is_explained(self)",
+            "find_obstruction(self)", "certain_dependencies(self, target)",
+            "least_reruns(self, changed)", "duplicate(self)", "__len__(self)", "__eq__(self, other)",
+        ],
+    },
+    "console": {"Console": ["__init__(self)", "execute(self, row)"]},
 }
 
 
@@ -81,6 +102,14 @@ def files():
     return sorted(name for name in os.listdir(FOLDER) if name != "__pycache__")
 
 
+def functions_in(rows):
+    """Return the functions that are defined in these rows, with their arguments."""
+    return [
+        "%s(%s)" % (node.name, ast.unparse(node.args))
+        for node in rows if isinstance(node, ast.FunctionDef)
+    ]
+
+
 def is_map(node):
     return isinstance(node, ast.Call) and isinstance(node.func, ast.Name) and node.func.id == "map"
 
@@ -88,12 +117,17 @@ def is_map(node):
 class TheInterface(unittest.TestCase):
     def test_the_functions_are_defined_in_their_files(self):
         for module, expected in FUNCTIONS.items():
-            found = [
-                "%s(%s)" % (node.name, ast.unparse(node.args))
-                for node in ast.parse(read(module + ".py")).body
-                if isinstance(node, ast.FunctionDef)
-            ]
+            found = functions_in(ast.parse(read(module + ".py")).body)
             self.assertLessEqual(set(expected), set(found))
+
+    def test_the_methods_are_defined_in_the_classes_themselves(self):
+        for module, classes in METHODS.items():
+            found = {
+                node.name: functions_in(node.body)
+                for node in ast.parse(read(module + ".py")).body if isinstance(node, ast.ClassDef)
+            }
+            for name, expected in classes.items():
+                self.assertLessEqual(set(expected), set(found[name]))
 
     def test_the_classes_are_defined_in_their_files(self):
         for module, expected in CLASSES.items():

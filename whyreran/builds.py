@@ -77,6 +77,12 @@ def pending_at(log, index):
     return [target for target in sorted(statuses) if statuses[target] in BROKEN]
 
 
+def copied_build(build):
+    """Return a build with new lists and dicts, and with the targets in ascending order."""
+    changed, statuses = build
+    return (list(changed), {target: statuses[target] for target in sorted(statuses)})
+
+
 def explains(project, graph, log):
     """Tell whether the graph explains the log."""
     return first_mismatch(project, graph, log) is None

@@ -10,8 +10,11 @@ from whyreran.errors import (
     InvalidProject,
     InvalidResults,
     InvalidTarget,
+    NothingToUndo,
+    TooLarge,
 )
 from whyreran.forms import (
+    MOST_BUILDS,
     dependency_links,
     graph_links,
     has_build_form,
@@ -59,6 +62,12 @@ def check_log(project, log):
         raise InvalidLog("this is not a log of the project")
 
 
+def check_room(log):
+    """Raise TooLarge if the log has no room for one more build."""
+    if len(log) >= MOST_BUILDS:
+        raise TooLarge(MOST_BUILDS)
+
+
 def check_plans(project, plans):
     """Raise InvalidLog unless the value is a list of plans for builds."""
     if not has_plans_form(project, plans):
@@ -100,3 +109,9 @@ def check_number(number, most):
     """Raise InvalidNumber unless the value is an integer from 0 to the given one."""
     if not is_integer_up_to(number, most):
         raise InvalidNumber("this is not an integer within the bounds")
+
+
+def check_something_to_undo(calls):
+    """Raise NothingToUndo if the list of what can be reverted is empty."""
+    if not calls:
+        raise NothingToUndo("there is nothing to undo")
