@@ -75,10 +75,10 @@ def _above_some(links, above, mask):
 
 def is_superfluous_in(links, target, name):
     """Tell whether the graph has the same logs without the name among the dependencies."""
-    live = live_names(links)
-    own = links.masks[target]
-    if not links.bits[target] & live or not links.bits[name] & live:
+    # A target with a live dependency is live itself.
+    if not links.bits[name] & live_names(links):
         return True
+    own = links.masks[target]
     if is_reached_from(links, name, reached_around(links, own)):
         return False
     return links.bits[name] & _above_some(links, names_above(links), own) != 0
@@ -92,7 +92,8 @@ def greatest_masks(links):
     for target in links.targets:
         # No path around the dependencies reaches these dependencies themselves.
         covered = live & ~reached_around(links, links.masks[target])
-        found[target] = above[target] & covered if links.bits[target] & live else 0
+        # Above a dead target there are no live names.
+        found[target] = above[target] & covered
     return found
 
 
